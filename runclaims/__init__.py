@@ -1,0 +1,1 @@
+"""Runclaims: what all runs of some processes keep."""

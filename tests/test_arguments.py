@@ -1,0 +1,121 @@
+"""What holds for every function: lists for tuples, names of arguments, nothing changed."""
+
+import copy
+import importlib
+import inspect
+import unittest
+
+from helper import LOW, ONE, OTHER, SAMPLE, SET_X, X, Y, listed
+from test_interface import INTERFACE, calls_of
+
+STATE = ((1, 2), (3, 2), ((1,),), 1)
+TURNS = ((0, 0), (0, 1), (0, 3), (1, 1))
+TEST = ("or", ("full", "q"), ("and", LOW, ("stands", "a", "top")))
+HEARD = (("far", ("not", LOW)), ("wet", TEST))
+WAIT = ("until", ("word", "a"), ("or", ("word", "b"), ("next", ("true",))))
+LOOP = ((("a",), ("a", "b")), (("b",), ()))
+BLOCK = (SET_X, ("pick", ((("pass",),), (("else",), ("once", (SET_X,))))))
+START = ((0, 0), (0, 0), ((),), -1)
+CALLS = {
+    "is_system": [(SAMPLE,), (listed(SAMPLE),)], "is_value": [(SAMPLE, X), (SAMPLE, list(X))],
+    "is_test": [(SAMPLE, TEST), (SAMPLE, list(TEST))], "is_heard": [(SAMPLE, HEARD), (SAMPLE, list(HEARD))],
+    "is_block": [(SAMPLE, "b", BLOCK), (SAMPLE, "a", list(BLOCK))], "fitted": [(-3, 4)],
+    "cell_row": [(SAMPLE, "x")], "queue_row": [(SAMPLE, "q")], "value_cells": [(("sum", X, Y),)],
+    "with_cell": [(SAMPLE, "c", 3, 2)], "with_queue": [(SAMPLE, "r", 3, 2)], "with_part": [(SAMPLE, "c", BLOCK)],
+    "with_block": [(SAMPLE, "b", BLOCK), (SAMPLE, "b", ())], "with_first": [(SAMPLE, "x", 2)],
+    "with_room": [(SAMPLE, "q", 3)], "without": [(SAMPLE, "b")], "renamed": [(SAMPLE, "x", "z"), (SAMPLE, "a", "z")],
+    "relabelled": [(SAMPLE, "a", "top", "new")], "beside": [(SAMPLE, OTHER)],
+    "pieces": [("a b==1",)], "value_from": [("x + 1",)], "test_from": [("x < 1 or not full q",)],
+    "block_from": [("pick { pass | else ; x = 1 }",)], "system_from": [("cell c 1 = 0 part p { c = 1 }",)],
+    "value_text": [(("sum", X, ("times", Y, ONE)),)], "block_text": [(BLOCK,)], "test_text": [(TEST,)],
+    "step_of": [(SAMPLE, "a", 1)], "steps_at": [(SAMPLE, "a", 1)], "label_place": [(SAMPLE, "a", "top")],
+    "labels_at": [(SAMPLE, "a", 1)], "standing": [(SAMPLE, (1, 2))], "path_of": [(SAMPLE, "b", 3)],
+    "step_with": [(SAMPLE, "b", (0, 0, 1, 1))], "deed_with": [(SAMPLE, "b", (0, 0, 1))],
+    "places_behind": [(SAMPLE, "a", 1)], "places_led_to": [(SAMPLE, "a", 1)], "entries": [(SAMPLE, "a", 1)],
+    "is_alike": [(SAMPLE, "a", "b"), (SAMPLE, "a", "a")],
+    "is_state": [(SAMPLE, STATE), (SAMPLE, list(STATE))], "number_at": [(SAMPLE, STATE, ("gap", Y, ("times", X, X)))],
+    "is_so": [(SAMPLE, STATE, TEST)], "place_at": [(SAMPLE, STATE, "b")], "held_in": [(SAMPLE, STATE, "y")],
+    "lying": [(SAMPLE, STATE, "q")], "can_take": [(SAMPLE, STATE, "b")], "shut_steps": [(SAMPLE, STATE, "a")],
+    "ready_for": [(SAMPLE, STATE, "b")], "after": [(SAMPLE, START, (0, 0)), (SAMPLE, STATE, (1, 3))],
+    "states": [(SAMPLE, TURNS)], "last_state": [(SAMPLE, TURNS)], "is_turns": [(SAMPLE, TURNS), (SAMPLE, list(TURNS))],
+    "taking_part": [(SAMPLE, (0, 0)), (SAMPLE, (1, 0, 0, 0))], "breaks": [(SAMPLE, START, (0, 0))],
+    "broken": [(SAMPLE, TURNS[:2])], "told_at": [(SAMPLE, HEARD, STATE)], "told_along": [(SAMPLE, HEARD, ((0, 0), (1, 1)))],
+    "do_commute": [(SAMPLE, START, (0, 0), (1, 1))], "swapped": [(SAMPLE, ((0, 0), (1, 1)), 0)],
+    "led_by": [(SAMPLE, ("b", "a"), 5)], "is_formula": [(WAIT,), (list(WAIT),)], "left": [(WAIT, ("a",))],
+    "left_behind": [(WAIT, (("a",), ("a", "b")))], "formula_from": [("a until not b",)], "true_at": [(WAIT, LOOP, 9)],
+    "is_loop": [(LOOP,), (list(LOOP),)], "told_there": [(LOOP, 9)], "run_from": [(LOOP, 5)],
+    "are_alike": [(LOOP, LOOP)], "alike_but_repeats": [(LOOP, LOOP)], "with_repeats": [(LOOP, (1, 2, 3, 1))],
+}
+BY_ARGUMENTS = {
+    ("system",): [(SAMPLE,), (OTHER,)], ("system", "part"): [(SAMPLE, "a"), (SAMPLE, "b"), (OTHER, "take")],
+    ("test",): [(TEST,)], ("system", "part", "number"): [(SAMPLE, "a", 2), (SAMPLE, "b", 3)],
+    ("system", "state"): [(SAMPLE, STATE), (SAMPLE, START)], ("formula",): [(WAIT,)],
+    ("formula", "loop"): [(WAIT, LOOP)], ("loop",): [(LOOP,)],
+}
+
+
+def all_calls():
+    """Triples (function, names of its arguments, arguments)."""
+    for module, text in INTERFACE.items():
+        home = importlib.import_module(f"runclaims.{module}")
+        for name, names in calls_of(text):
+            for given in CALLS.get(name) or BY_ARGUMENTS[names]:
+                yield getattr(home, name), names, given
+
+
+def as_lists(names, given):
+    """The arguments with lists in them, but for thing, which is told as it is."""
+    return [value if name == "thing" else listed(value) for name, value in zip(names, given)]
+
+
+def has_list(thing):
+    return isinstance(thing, list) or isinstance(thing, tuple) and any([has_list(row) for row in thing])
+
+
+class Arguments(unittest.TestCase):
+    def test_lists_and_names(self):
+        for call, names, given in all_calls():
+            with self.subTest(call.__name__):
+                wanted = call(*given)
+                self.assertEqual(call(*as_lists(names, given)), wanted)
+                self.assertEqual(call(**dict(zip(names, given))), wanted)
+                self.assertEqual(call(**dict(zip(names, as_lists(names, given)))), wanted)
+                mixed = [tuple(row) if isinstance(row, list) else row for row in as_lists(names, given)]
+                if "thing" not in names:
+                    self.assertEqual(call(*mixed), wanted)
+
+    def test_nothing_is_changed(self):
+        for call, names, given in all_calls():
+            with self.subTest(call.__name__):
+                lists = as_lists(names, given)
+                kept = copy.deepcopy(lists)
+                call(*lists)
+                self.assertEqual(lists, kept)
+
+    def test_results_are_tuples_and_lists_are_new(self):
+        for call, names, given in all_calls():
+            with self.subTest(call.__name__):
+                one, other = call(*as_lists(names, given)), call(*as_lists(names, given))
+                self.assertEqual(one, other)
+                if isinstance(one, list):
+                    self.assertEqual(call.__name__, "states")
+                    self.assertIsNot(one, other)
+                    one.clear()
+                    self.assertEqual(call(*given), other)
+                    one = tuple(other)
+                self.assertFalse(has_list(one), one)
+
+    def test_what_tells_whether_tells_true_or_false(self):
+        for call, names, given in all_calls():
+            if "thing" in names:
+                self.assertIn(call(*given), (True, False))
+                self.assertIs(type(call(*given)), bool)
+                self.assertIs(call(*given), not has_list(given[-1]))
+
+    def test_all_arguments_are_named(self):
+        for call, names, _ in all_calls():
+            self.assertEqual(tuple(inspect.signature(call).parameters), names)
+
+
+if __name__ == "__main__":
+    unittest.main()

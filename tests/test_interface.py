@@ -1,0 +1,105 @@
+"""The names, the arguments and the files of the interface."""
+
+import ast
+import importlib
+import inspect
+import pathlib
+import unittest
+
+FOLDER = pathlib.Path(__file__).resolve().parent.parent / "runclaims"
+INTERFACE = {
+    "systems": """
+        is_system(thing), is_value(system, thing), is_test(system, thing),
+        is_heard(system, thing), cell_names(system), queue_names(system), part_names(system),
+        cell_row(system, cell), queue_row(system, queue), block_of(system, part),
+        labels_of(system, part), fitted(number, top), deeds_of(system, part), value_cells(one),
+        test_cells(test), test_queues(test), test_labels(test), reads(system, part),
+        lets(system, part), puts_into(system, part), gets_from(system, part),
+        asks_labels(system, part), shared_cells(system), spare_names(system),
+        partners(system, part), with_cell(system, name, top, number),
+        with_queue(system, name, room, top), with_part(system, name, block),
+        with_block(system, part, block), is_block(system, part, thing),
+        with_first(system, cell, number), with_room(system, queue, room),
+        without(system, name), renamed(system, old, new),
+        relabelled(system, part, label, new), beside(system, other)
+    """,
+    "language": """
+        pieces(text), value_from(text), test_from(text), block_from(text), system_from(text)
+    """,
+    "texts": "value_text(value), test_text(test), block_text(block), system_text(system)",
+    "tables": """
+        steps_of(system, part), table(system), end_of(system, part),
+        how_many_places(system, part), step_of(system, part, number),
+        steps_at(system, part, place), label_place(system, part, label),
+        labels_at(system, part, place), standing(system, places), held_places(system, part),
+        path_of(system, part, number), step_with(system, part, path),
+        deed_with(system, part, path), places_behind(system, part, place),
+        places_led_to(system, part, place), lost_steps(system, part),
+        entries(system, part, place), goes_round(system, part),
+        step_reads(system, part, number), step_lets(system, part, number),
+        step_queues(system, part, number), step_asks(system, part, number),
+        step_labels(system, part, number), is_alike(system, part, name)
+    """,
+    "states": """
+        begin(system), is_state(system, thing), number_at(system, state, value),
+        is_so(system, state, test), place_at(system, state, part),
+        held_in(system, state, cell), lying(system, state, queue), holder_of(system, state),
+        can_take(system, state, part), shut_steps(system, state, part),
+        ready(system, state), ready_for(system, state, part), after(system, state, turn),
+        states(system, turns), last_state(system, turns), is_turns(system, thing),
+        is_still(system, state), ended_parts(system, state), shut_parts(system, state),
+        taking_part(system, turn), breaks(system, state, turn), broken(system, turns),
+        told_at(system, heard, state), told_along(system, heard, turns),
+        do_commute(system, state, one, other), swapped(system, turns, number),
+        led_by(system, row, many)
+    """,
+    "formulas": """
+        is_formula(thing), pieces_in(formula), words_of(formula), size_of(formula),
+        has_next(formula), places_true(formula, loop), is_true(formula, loop),
+        true_at(formula, loop, number), opposite(formula), inward(formula), core(formula),
+        left(formula, told), left_behind(formula, row), formula_text(formula),
+        formula_from(text)
+    """,
+    "loops": """
+        is_loop(thing), told_there(loop, number), run_from(loop, number), least_loop(loop),
+        are_alike(loop, other), without_repeats(loop), alike_but_repeats(loop, other),
+        with_repeats(loop, numbers)
+    """,
+}
+
+
+def calls_of(text):
+    """The pairs of a name and the tuple of the names of its arguments."""
+    row = ast.parse(f"[{text.strip()}]", mode="eval").body.elts
+    return [(call.func.id, tuple([argument.id for argument in call.args])) for call in row]
+
+
+class Interface(unittest.TestCase):
+    def test_each_function_stands_in_its_file_with_its_arguments(self):
+        for module, text in INTERFACE.items():
+            home = importlib.import_module(f"runclaims.{module}")
+            tree = ast.parse((FOLDER / f"{module}.py").read_text())
+            made = [node.name for node in tree.body if isinstance(node, ast.FunctionDef)]
+            for name, arguments in calls_of(text):
+                with self.subTest(f"{module}.{name}"):
+                    self.assertIn(name, made)
+                    told = inspect.signature(getattr(home, name)).parameters
+                    self.assertEqual(tuple(told), arguments)
+                    for parameter in told.values():
+                        self.assertIs(parameter.default, parameter.empty)
+                        self.assertEqual(parameter.kind, parameter.POSITIONAL_OR_KEYWORD)
+
+    def test_other_functions_of_these_files_are_not_open(self):
+        for module in ("systems", "language", "texts", "tables", "states", "formulas"):
+            tree = ast.parse((FOLDER / f"{module}.py").read_text())
+            made = [node.name for node in tree.body if isinstance(node, ast.FunctionDef)]
+            listed = [name for name, _ in calls_of(INTERFACE[module])]
+            for name in made:
+                self.assertTrue(name.startswith("_") or name in listed, name)
+
+    def test_the_package_is_one_folder_with_an_init(self):
+        self.assertTrue((FOLDER / "__init__.py").is_file())
+
+
+if __name__ == "__main__":
+    unittest.main()
