@@ -148,7 +148,7 @@ def lying_after(plan, state, turn):
             cell = plan.cell_at[plan.deed(turn[2], turn[3])[2]]
             values[cell] = fitted(number, plan.cell_tops[cell])
         else:
-            contents[queue] = (*contents[queue], number)
+            contents[queue] = contents[queue] + (number,)
     elif deed[0] == "get":
         queue, cell = plan.queue_at[deed[1]], plan.cell_at[deed[2]]
         values[cell] = fitted(contents[queue][0], plan.cell_tops[cell])

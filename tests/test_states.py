@@ -81,6 +81,7 @@ class Asked(Case):
             (("full", "q"), True), (("empty", "q"), False), (("stands", "a", "top"), True),
             (("less", ("gap", Y, X), number(0)), True), (("not", ("full", "q")), False),
             (("and", ("full", "q"), LOW), False), (("or", ("full", "q"), LOW), True), (("or", LOW, LOW), False),
+            (("or", LOW, ("full", "q")), True), (("and", LOW, ("full", "q")), False),
             (("less", X, X), False),
         ):
             self.assertIs(is_so(SAMPLE, state, test), wanted)
@@ -310,6 +311,7 @@ class Orders(Case):
         system = with_parts((("pick", ((PASS,), (PASS,))), PASS), (GIVE,), (TAKE, PASS))
         self.assertEqual(led_by(system, "abc", 6), ((0, 0), (0, 2), (1, 0, 2, 0), (2, 1), (), ()))
         self.assertEqual(led_by(system, ("c", "b", "a"), 4), ((1, 0, 2, 0), (2, 1), (0, 0), (0, 2)))
+        self.assertEqual(led_by(system, ("c", "a", "b"), 3), ((1, 0, 2, 0), (2, 1), (0, 0)))
         self.assertEqual(led_by(system, ("b", "a", "c"), 0), ())
         self.assertEqual(len(led_by(system, ("b", "a", "c"), 200)), 200)
         for row in (("a", "b"), ("a", "b", "c", "c"), (), ("a", "a", "b"), ("c", "b")):
