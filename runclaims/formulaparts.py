@@ -19,10 +19,16 @@ TURNED = {
 def formula_rows(formula):
     """The rows of a FORMULA of tuples."""
     rows = []
-    numbers = {}
+    add_rows(rows, {}, formula)
+    return rows
+
+
+def add_rows(rows, numbers, formula):
+    """Add to rows, whose numbers these are, those of a FORMULA of tuples that are not
+    there yet; tells the number of the FORMULA itself."""
     # An own stack: what was made from FORMULAS may be deep.
     stack = [(formula, [])]
-    while stack:
+    while True:
         piece, built = stack[-1]
         within = within_piece(piece)
         if len(built) < len(within):
@@ -33,9 +39,9 @@ def formula_rows(formula):
         if row not in numbers:
             numbers[row] = len(rows)
             rows.append(row)
-        if stack:
-            stack[-1][1].append(numbers[row])
-    return rows
+        if not stack:
+            return numbers[row]
+        stack[-1][1].append(numbers[row])
 
 
 def within_piece(piece):

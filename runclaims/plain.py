@@ -60,3 +60,8 @@ def is_row(thing, size):
 def as_set(rows):
     """The ascending tuple of what is in rows."""
     return tuple(sorted(set(rows)))
+
+
+def is_ascending(row):
+    """Whether each one in row is greater than the one ahead of it."""
+    return all([row[at] < row[at + 1] for at in range(len(row) - 1)])

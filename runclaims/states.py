@@ -1,10 +1,11 @@
 """Joint states of a SYSTEM, and the TURNS that lead from one to another."""
 
 from runclaims.errors import NoCell, NoNumber, NoPart, NoQueue, NotReady, Unfit
+from runclaims.forms import is_state_form, is_turn_form
 from runclaims.moves import (
     breaks_check, holds, open_steps, ready_turns, state_after, told_in, worth,
 )
-from runclaims.plain import frozen, is_number, is_number_from, is_row
+from runclaims.plain import frozen
 from runclaims.plans import Plan
 
 
@@ -15,21 +16,7 @@ def begin(system):
 
 def is_state(system, thing):
     """Whether thing is a STATE, come to or not."""
-    plan = _plan(system)
-    if not is_row(thing, 4):
-        return False
-    places, values, contents, holder = thing
-    ends = [chart.end for chart in plan.charts]
-    if not (_are_numbers(places, ends) and _are_numbers(values, plan.cell_tops)):
-        return False
-    if not is_row(contents, len(plan.rooms)):
-        return False
-    for lies, room, top in zip(contents, plan.rooms, plan.queue_tops):
-        if type(lies) is not tuple or len(lies) > room:
-            return False
-        if not _are_numbers(lies, [top for _ in lies]):
-            return False
-    return is_number_from(holder, -1, len(plan.charts) - 1)
+    return is_state_form(_plan(system), thing)
 
 
 def number_at(system, state, value):
@@ -120,7 +107,7 @@ def is_turns(system, thing):
         return False
     state = plan.first
     for turn in thing:
-        if not _is_turn_form(turn) or turn not in ready_turns(plan, state):
+        if not is_turn_form(turn) or turn not in ready_turns(plan, state):
             return False
         state = state_after(plan, state, turn)
     return True
@@ -230,20 +217,6 @@ def _part_number(plan, part):
     if part not in plan.part_at:
         raise NoPart(part)
     return plan.part_at[part]
-
-
-def _are_numbers(thing, tops):
-    """Whether thing is a tuple of numbers, each from 0 to its top."""
-    if not is_row(thing, len(tops)):
-        return False
-    return all([is_number_from(number, 0, top) for number, top in zip(thing, tops)])
-
-
-def _is_turn_form(thing):
-    """Whether thing is a TURN by its form."""
-    if type(thing) is not tuple or len(thing) not in (0, 2, 4):
-        return False
-    return all([is_number(number) for number in thing])
 
 
 def _turns_with(plan, state, part):

@@ -124,3 +124,15 @@ class Goings:
 
     def has_turn(self, state, part):
         return any([part in turn[::2] and self.can_turn(state, turn) for turn in self.all_turns()])
+
+    def all_states(self, most=10 ** 9):
+        """The STATES come to, the nearest ahead; no more once there are so many."""
+        found = [self.begin()]
+        for state in found:
+            for turn in self.ready(state):
+                there = self.after(state, turn)
+                if there not in found:
+                    found.append(there)
+            if len(found) > most:
+                break
+        return found

@@ -3,6 +3,7 @@
 import random
 import unittest
 
+from goings import Goings
 from runclaims.systems import is_system
 
 ONE, TWO = ("number", 1), ("number", 2)
@@ -218,3 +219,54 @@ class Maker:
         circle = self.random.randint(1, places - front)
         sets = [self.told(words) for _ in range(front + circle)]
         return (tuple(sets[:front]), tuple(sets[front:]))
+
+    def numbers(self, many):
+        return tuple([at for at in range(many) if self.random.random() < 0.4])
+
+    def machine(self, words, standings=4, moves=8, sets=2):
+        """A MACHINE with at most so many of these; some moves of it can never be made."""
+        many = self.random.randint(1, standings)
+        rows = {
+            (
+                self.random.randrange(many), self.told(words), self.told(words),
+                self.random.randrange(many),
+            )
+            for _ in range(self.random.randint(0, moves))
+        }
+        marks = [self.numbers(many) for _ in range(self.random.randint(0, sets))]
+        return (many, self.numbers(many) or (0,), tuple(sorted(rows)), tuple(marks))
+
+    def heard(self, system, words):
+        """HEARD words, each with a TEST of the SYSTEM."""
+        cells = [row[0] for row in system[0]]
+        roomy = [row[0] for row in system[1] if row[1]]
+        return tuple([(word, self.test(cells, roomy, [], 1)) for word in words])
+
+    def small(self, most=60, **sizes):
+        """A SYSTEM with at most so many STATES."""
+        while True:
+            system = self.system(**sizes)
+            if len(Goings(system).all_states(most + 1)) <= most:
+                return system
+
+
+def counting(cell):
+    return ("let", cell, ("sum", ("cell", cell), ONE))
+
+
+def ring(places, tops):
+    """One part that counts its cells and goes round: joint states on one circle."""
+    names = "mno"[:len(tops)]
+    deeds = tuple([counting(name) for name in names]) + (("pass",),) * (places - len(tops))
+    cells = tuple([(name, top, 0) for name, top in zip(names, tops)])
+    return (cells, (), (("a", (("again", (deeds,)),)),))
+
+
+def free_clock(tops):
+    """A part for each cell that counts round for itself: STATES lead to many others."""
+    cells = tuple([(name, top, 0) for name, top in zip("xyz", tops)])
+    parts = [
+        (name, (("again", ((counting(cell[0]),),)),))
+        for name, cell in zip("abc", cells)
+    ]
+    return (cells, (), tuple(parts))

@@ -16,6 +16,19 @@ WAIT = ("until", ("word", "a"), ("or", ("word", "b"), ("next", ("true",))))
 LOOP = ((("a",), ("a", "b")), (("b",), ()))
 BLOCK = (SET_X, ("pick", ((("pass",),), (("else",), ("once", (SET_X,))))))
 START = ((0, 0), (0, 0), ((),), -1)
+A, B = ("word", "a"), ("word", "b")
+AHEAD, AGAIN = ("next", ("and", A, B)), ("always", ("ever", ("word", "p")))
+LOOP_A = ("or", B, ("next", ("true",)))
+GROUNDS = ((("next", ("true",)), 0, 0), (LOOP_A, 0, 0), (("true",), 1, 0), (WAIT, 0, 0))
+SLOW = ((("a",), ("a",), ("a", "b")), (("b",), ()))
+OFTEN = (2, (0,), ((0, (), ("p",), 0), (0, ("p",), (), 1), (1, (), ("p",), 0), (1, ("p",), (), 1)), ((1,),))
+RARE = (2, (0,), ((0, (), (), 0), (0, ("p",), (), 1)), ((1,),))
+P_LOOP = ((), (("p",), ()))
+FREE = ((("n", 1, 0),), (), (("a", (("again", ((("let", "n", ("number", 0)),), (("let", "n", ONE),))),)),))
+ON = (("p", ("same", ("cell", "n"), ONE)),)
+BEGUN, LIT = ((0,), (0,), (), -1), ((0,), (1,), (), -1)
+CIRCLE = (((BEGUN, 0), (LIT, 0)), ((LIT, 1),))
+RANKS = ((BEGUN, 0, 2), (BEGUN, 1, 1), (LIT, 0, 2), (LIT, 1, 0))
 CALLS = {
     "is_system": [(SAMPLE,), (listed(SAMPLE),)], "is_value": [(SAMPLE, X), (SAMPLE, list(X))],
     "is_test": [(SAMPLE, TEST), (SAMPLE, list(TEST))], "is_heard": [(SAMPLE, HEARD), (SAMPLE, list(HEARD))],
@@ -45,13 +58,29 @@ CALLS = {
     "left_behind": [(WAIT, (("a",), ("a", "b")))], "formula_from": [("a until not b",)], "true_at": [(WAIT, LOOP, 9)],
     "is_loop": [(LOOP,), (list(LOOP),)], "told_there": [(LOOP, 9)], "run_from": [(LOOP, 5)],
     "are_alike": [(LOOP, LOOP)], "alike_but_repeats": [(LOOP, LOOP)], "with_repeats": [(LOOP, (1, 2, 3, 1))],
+    "is_grounds": [(WAIT, LOOP, GROUNDS), (WAIT, LOOP, list(GROUNDS))], "telling": [(LOOP, SLOW)],
+    "telling_still": [(LOOP, ((), (("a", "b"),)))], "is_telling": [(LOOP, SLOW, AHEAD), (LOOP, SLOW, list(AHEAD))],
+    "is_telling_still": [(LOOP, ((), (("a", "b"),)), ("not", B)), (LOOP, ((), (("a", "b"),)), ["not", B])],
+    "true_loops": [(WAIT, ("a", "b"), 1, 1)], "how_many_true": [(WAIT, ("a", "b"), 1, 1)],
+    "first_true": [(("next", WAIT), ("a", "b"), 3)], "is_machine": [(OFTEN,), (list(OFTEN),)],
+    "moved_to": [(OFTEN, 1, ("p", "q"))], "standings_behind": [(OFTEN, (("p",), ()))], "path_along": [(OFTEN, P_LOOP)],
+    "takes": [(OFTEN, P_LOOP)], "is_path_along": [(OFTEN, P_LOOP, ((), (0, 1))), (OFTEN, P_LOOP, ((), [0, 1]))],
+    "is_numbers_for": [(RARE, ((1, 0), (None, 0))), (RARE, ([1, 0], (None, 0)))],
+    "both_machine": [(OFTEN, RARE), (OFTEN, OFTEN)], "either_machine": [(OFTEN, RARE)], "takes_only": [(OFTEN, AGAIN)],
+    "only_against": [(OFTEN, AGAIN), (OFTEN, ("word", "p"))], "implies": [(WAIT, AGAIN)], "mean_same": [(WAIT, AGAIN)],
+    "loop_apart": [(WAIT, AGAIN)], "is_loop_apart": [(B, WAIT, LOOP), (B, WAIT, list(LOOP))],
+    "led_from": [(FREE, ON, OFTEN, BEGUN, 1)],
+    "is_full_circle": [(FREE, ON, OFTEN, CIRCLE), (FREE, ON, OFTEN, list(CIRCLE))],
+    "is_ranks": [(FREE, ON, RARE, RANKS), (FREE, ON, RARE, list(RANKS))],
 }
 BY_ARGUMENTS = {
     ("system",): [(SAMPLE,), (OTHER,)], ("system", "part"): [(SAMPLE, "a"), (SAMPLE, "b"), (OTHER, "take")],
     ("test",): [(TEST,)], ("system", "part", "number"): [(SAMPLE, "a", 2), (SAMPLE, "b", 3)],
     ("system", "state"): [(SAMPLE, STATE), (SAMPLE, START)], ("formula",): [(WAIT,)],
-    ("formula", "loop"): [(WAIT, LOOP)], ("loop",): [(LOOP,)],
+    ("formula", "loop"): [(WAIT, LOOP)], ("loop",): [(LOOP,)], ("machine",): [(OFTEN,), (RARE,)],
+    ("system", "heard", "machine"): [(FREE, ON, OFTEN), (FREE, ON, RARE)],
 }
+LISTS = ("states", "true_loops", "come_pairs", "led_from")
 
 
 def all_calls():
@@ -98,7 +127,7 @@ class Arguments(unittest.TestCase):
                 one, other = call(*as_lists(names, given)), call(*as_lists(names, given))
                 self.assertEqual(one, other)
                 if isinstance(one, list):
-                    self.assertEqual(call.__name__, "states")
+                    self.assertIn(call.__name__, LISTS)
                     self.assertIsNot(one, other)
                     one.clear()
                     self.assertEqual(call(*given), other)
@@ -108,9 +137,9 @@ class Arguments(unittest.TestCase):
     def test_what_tells_whether_tells_true_or_false(self):
         for call, names, given in all_calls():
             if "thing" in names:
-                self.assertIn(call(*given), (True, False))
-                self.assertIs(type(call(*given)), bool)
-                self.assertIs(call(*given), not has_list(given[-1]))
+                with self.subTest(call.__name__):
+                    self.assertIs(type(call(*given)), bool)
+                    self.assertIs(call(*given), not has_list(given[-1]))
 
     def test_all_arguments_are_named(self):
         for call, names, _ in all_calls():

@@ -6,7 +6,10 @@ import re
 import unittest
 
 FOLDER = pathlib.Path(__file__).resolve().parent
-MODULES = ("errors", "systems", "language", "texts", "tables", "states", "loops", "formulas")
+MODULES = (
+    "errors", "systems", "language", "texts", "tables", "states", "loops", "formulas", "grounds",
+    "machines", "makers", "ranks",
+)
 
 
 def names_of_all():
@@ -46,7 +49,9 @@ class Examples(unittest.TestCase):
         return done
 
     def test_examples(self):
-        many = {"point4": 4, "point5": 9, "point6": 3, "point7": 6, "point8": 5}
+        many = {
+            "point4": 4, "point5": 9, "point6": 3, "point7": 6, "point8": 5, "point9": 7, "point10": 1,
+        }
         for path in sorted((FOLDER / "examples").iterdir()):
             with self.subTest(path.name):
                 self.assertEqual(self.run_file(path), many.pop(path.stem))

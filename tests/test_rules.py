@@ -34,7 +34,7 @@ NODES = (
     ast.Call, ast.Attribute, ast.Subscript, ast.Slice, ast.Tuple, ast.List, ast.Dict,
     ast.ListComp, ast.DictComp, ast.SetComp, ast.comprehension, ast.BinOp, ast.BoolOp,
     ast.UnaryOp, ast.Compare, ast.IfExp, ast.Starred, ast.JoinedStr, ast.FormattedValue,
-    ast.Lambda, ast.keyword, ast.operator, ast.boolop, ast.unaryop, ast.cmpop,
+    ast.Lambda, ast.keyword, ast.operator, ast.boolop, ast.unaryop, ast.cmpop, ast.Delete, ast.Del,
 )
 FILES = sorted(FOLDER.glob("*.py"))
 
@@ -47,15 +47,24 @@ def functions_in(tree):
     return [node for node in ast.walk(tree) if isinstance(node, ast.FunctionDef)]
 
 
+def nested_in(tree):
+    """The functions that stand within others."""
+    inner = [inner for function in functions_in(tree) for inner in functions_in(function)[1:]]
+    return [node for at, node in enumerate(inner) if node not in inner[:at]]
+
+
 def bound_in(function):
-    """The names of parameters and local variables of a function."""
-    arguments = function.args
-    names = [row.arg for row in arguments.args + arguments.kwonlyargs + arguments.posonlyargs]
+    """The names of parameters, local variables and nested functions of a function."""
+    names = []
     for node in ast.walk(function):
         if isinstance(node, ast.Name) and isinstance(node.ctx, ast.Store):
             names.append(node.id)
-        if isinstance(node, ast.Lambda):
-            names.extend([row.arg for row in node.args.args])
+        if isinstance(node, (ast.FunctionDef, ast.Lambda)):
+            arguments = node.args
+            rows = arguments.args + arguments.kwonlyargs + arguments.posonlyargs
+            names.extend([row.arg for row in rows])
+        if isinstance(node, ast.FunctionDef) and node is not function:
+            names.append(node.name)
     return set(names)
 
 
@@ -147,7 +156,8 @@ class Rules(unittest.TestCase):
             for name in made + values:
                 self.assertFalse(hasattr(builtins, name), name)
                 self.assertNotIn(name, BARRED_NAMES)
-            for function in functions_in(tree):
+            nested = nested_in(tree)
+            for function in [node for node in functions_in(tree) if node not in nested]:
                 bound = bound_in(function)
                 for name in bound:
                     self.assertFalse(hasattr(builtins, name), name)
@@ -212,6 +222,38 @@ class Rules(unittest.TestCase):
         else:
             self.assertEqual(left.func.id, "type")
             self.assertIn(other.id, ("int", "str", "bool", "list", "tuple", "dict"))
+
+    def test_starts_with_dunder_init_return_nothing(self):
+        for _, tree in self.each():
+            for function in functions_in(tree):
+                if function.name == "__init__":
+                    self.assertEqual(functions_in(function), [function])
+                    self.assertFalse([n for n in ast.walk(function) if isinstance(n, ast.Return)])
+
+    def test_no_name_is_a_method_and_an_attribute(self):
+        methods, attributes = set(), set()
+        for _, tree in self.each():
+            for node in ast.walk(tree):
+                if isinstance(node, ast.ClassDef):
+                    methods.update([function.name for function in functions_in(node)])
+                if isinstance(node, ast.Attribute) and isinstance(node.ctx, ast.Store):
+                    attributes.add(node.attr)
+        self.assertEqual(methods & attributes, set())
+        self.assertEqual(attributes & set(dir(list) + dir(dict) + dir(str) + dir(set) + dir(int)), set())
+        self.assertEqual(methods & set(dir(list) + dir(dict) + dir(str) + dir(set) + dir(int)), {"__init__"})
+
+    def test_nothing_that_a_loop_goes_over_is_modified_in_it(self):
+        changing = ("append", "extend", "insert", "pop", "remove", "clear", "update", "setdefault", "reverse")
+        for path, tree in self.each():
+            for loop in [node for node in ast.walk(tree) if isinstance(node, ast.For)]:
+                over = {node.id for node in ast.walk(loop.iter) if isinstance(node, ast.Name)}
+                for node in [inner for row in loop.body for inner in ast.walk(row)]:
+                    if isinstance(node, ast.Call) and isinstance(node.func, ast.Attribute):
+                        if node.func.attr in changing and isinstance(node.func.value, ast.Name):
+                            self.assertNotIn(node.func.value.id, over, f"{path.name}:{node.lineno}")
+                    if isinstance(node, ast.Subscript) and not isinstance(node.ctx, ast.Load):
+                        if isinstance(node.value, ast.Name):
+                            self.assertNotIn(node.value.id, over, f"{path.name}:{node.lineno}")
 
     def test_lines_end_well(self):
         for path in FILES:
