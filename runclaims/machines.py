@@ -6,7 +6,7 @@ from runclaims.graphs import (
     goes_on, is_full, lasso, mask_of, way_to,
 )
 from runclaims.plain import (
-    as_set, frozen, is_ascending, is_name_set, is_number, is_number_from, is_row,
+    as_set, frozen, is_ascending, is_name_set, is_number, is_number_from, is_row, least_bit,
 )
 from runclaims.works import (
     lean_works, live_in, machine_of, words_among, words_of_moves, works_of,
@@ -169,11 +169,6 @@ def loop_of(works):
     row = first + again + again[:1]
     told = [_told_between(works, row[at], row[at + 1]) for at in range(len(row) - 1)]
     return tuple(told[:len(first)]), tuple(told[len(first):])
-
-
-def least_bit(bits):
-    """The place of the least of these bits."""
-    return (bits & -bits).bit_length() - 1
 
 
 def _told_between(works, standing, goal):

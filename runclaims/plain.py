@@ -65,3 +65,8 @@ def as_set(rows):
 def is_ascending(row):
     """Whether each one in row is greater than the one ahead of it."""
     return all([row[at] < row[at + 1] for at in range(len(row) - 1)])
+
+
+def least_bit(bits):
+    """The place of the least of these bits."""
+    return (bits & -bits).bit_length() - 1

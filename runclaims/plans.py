@@ -1,6 +1,7 @@
 """A SYSTEM made ready for going along its joint states."""
 
 from runclaims.charts import Chart
+from runclaims.errors import NoPart
 
 
 class Plan:
@@ -29,3 +30,10 @@ class Plan:
     def deed(self, part, number):
         """The deed of a STEP."""
         return self.charts[part].steps[number][1]
+
+
+def part_number(plan, part):
+    """The number of the part of this name; raises NoPart if there is none."""
+    if part not in plan.part_at:
+        raise NoPart(part)
+    return plan.part_at[part]

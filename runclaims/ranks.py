@@ -2,10 +2,10 @@
 
 from runclaims.errors import Unfit
 from runclaims.fields import field_of, pairs_of
-from runclaims.forms import is_state_form
 from runclaims.graphs import components, fewest_in_lasso, goes_on, lasso, mask_of
 from runclaims.moves import ready_turns, state_after, told_in
-from runclaims.plain import as_set, frozen, is_number, is_number_from, is_row
+from runclaims.pairforms import are_pairs_that_come, is_pair_form, told_pairs
+from runclaims.plain import as_set, frozen, is_number, is_row
 from runclaims.plans import Plan
 from runclaims.works import works_of
 
@@ -13,7 +13,7 @@ from runclaims.works import works_of
 def come_pairs(system, heard, machine):
     """The ascending list of the PAIRS that come."""
     field, _, pairs = _made(system, heard, machine)
-    return sorted(_told_pairs(field, pairs))
+    return sorted(told_pairs(field, pairs))
 
 
 def led_from(system, heard, machine, state, standing):
@@ -30,7 +30,7 @@ def full_circle(system, heard, machine):
     found = lasso(pairs.behind, pairs.starts, pairs.masks, pairs.full)
     if found is None:
         return None
-    told = _told_pairs(field, pairs)
+    told = told_pairs(field, pairs)
     return tuple([tuple([told[node] for node in row]) for row in found])
 
 
@@ -40,9 +40,9 @@ def is_full_circle(system, heard, machine, thing):
     if not is_row(thing, 2) or not (type(thing[0]) is tuple and type(thing[1]) is tuple):
         return False
     row = thing[0] + thing[1]
-    if len(thing[1]) == 0 or not all([_is_pair_form(field.plan, works, pair) for pair in row]):
+    if len(thing[1]) == 0 or not all([is_pair_form(field.plan, works, pair) for pair in row]):
         return False
-    numbers = {pair: at for at, pair in enumerate(_told_pairs(field, pairs))}
+    numbers = {pair: at for at, pair in enumerate(told_pairs(field, pairs))}
     if not all([pair in numbers for pair in row]):
         return False
     nodes = [numbers[pair] for pair in row]
@@ -83,23 +83,18 @@ def least_ranks(field, pairs):
             return None
         for node in row:
             numbers[node] = least + marked if goals else 0
-    told = _told_pairs(field, pairs)
+    told = told_pairs(field, pairs)
     return tuple(sorted([(*pair, number) for pair, number in zip(told, numbers)]))
 
 
 def are_ranks(field, works, pairs, thing):
     """Whether thing are RANKS of PAIRS with one set of marks."""
-    if type(thing) is not tuple or not all([is_row(row, 3) for row in thing]):
-        return False
-    if not all([_is_pair_form(field.plan, works, row[:2]) for row in thing]):
+    if not are_pairs_that_come(field, works, pairs, thing):
         return False
     if not all([is_number(row[2]) and row[2] >= 0 for row in thing]):
         return False
-    told = _told_pairs(field, pairs)
-    if [row[:2] for row in thing] != sorted(told):
-        return False
     given = {row[:2]: row[2] for row in thing}
-    numbers = [given[pair] for pair in told]
+    numbers = [given[pair] for pair in told_pairs(field, pairs)]
     return all([
         numbers[node] >= numbers[goal] + pairs.masks[node]
         for node, row in enumerate(pairs.behind) for goal in row
@@ -117,15 +112,3 @@ def _made_with_one_set(system, heard, machine):
     if len(machine[3]) != 1:
         raise Unfit()
     return _made(system, heard, machine)
-
-
-def _told_pairs(field, pairs):
-    """Each of the PAIRS as a STATE and a standing."""
-    return [(field.states[here], standing) for here, standing in pairs.nodes]
-
-
-def _is_pair_form(plan, works, thing):
-    """Whether thing is a PAIR of a STATE and a standing, come to or not."""
-    if not is_row(thing, 2) or not is_state_form(plan, thing[0]):
-        return False
-    return is_number_from(thing[1], 0, len(works.rows) - 1)

@@ -1,12 +1,12 @@
 """Joint states of a SYSTEM, and the TURNS that lead from one to another."""
 
-from runclaims.errors import NoCell, NoNumber, NoPart, NoQueue, NotReady, Unfit
+from runclaims.errors import NoCell, NoNumber, NoQueue, NotReady, Unfit
 from runclaims.forms import is_state_form, is_turn_form
 from runclaims.moves import (
     breaks_check, holds, open_steps, ready_turns, state_after, told_in, worth,
 )
 from runclaims.plain import frozen
-from runclaims.plans import Plan
+from runclaims.plans import Plan, part_number
 
 
 def begin(system):
@@ -31,7 +31,7 @@ def is_so(system, state, test):
 
 def place_at(system, state, part):
     """The PLACE of a part."""
-    return frozen(state)[0][_part_number(_plan(system), part)]
+    return frozen(state)[0][part_number(_plan(system), part)]
 
 
 def held_in(system, state, cell):
@@ -61,13 +61,13 @@ def holder_of(system, state):
 def can_take(system, state, part):
     """The set of the numbers of the STEPS of a part that can be taken."""
     plan = _plan(system)
-    return tuple(open_steps(plan, frozen(state), _part_number(plan, part)))
+    return tuple(open_steps(plan, frozen(state), part_number(plan, part)))
 
 
 def shut_steps(system, state, part):
     """The set of the numbers of the STEPS at its PLACE that can not be taken."""
     plan = _plan(system)
-    here, number = frozen(state), _part_number(plan, part)
+    here, number = frozen(state), part_number(plan, part)
     found = open_steps(plan, here, number)
     steps = plan.charts[number].leaving[here[0][number]]
     return tuple([at for at in steps if at not in found])
@@ -81,7 +81,7 @@ def ready(system, state):
 def ready_for(system, state, part):
     """The set of the ready TURNS in which a part takes part."""
     plan = _plan(system)
-    number = _part_number(plan, part)
+    number = part_number(plan, part)
     return tuple(_turns_with(plan, frozen(state), number))
 
 
@@ -195,7 +195,7 @@ def swapped(system, turns, number):
 def led_by(system, row, many):
     """So many TURNS from the beginning, each one of the first part in row that has one."""
     plan, names = _plan(system), frozen(row)
-    numbers = [_part_number(plan, name) for name in names]
+    numbers = [part_number(plan, name) for name in names]
     if sorted(numbers) != list(range(len(plan.charts))):
         raise Unfit()
     state, found = plan.first, []
@@ -210,13 +210,6 @@ def led_by(system, row, many):
 def _plan(system):
     """The SYSTEM, made ready."""
     return Plan(frozen(system))
-
-
-def _part_number(plan, part):
-    """The number of a part."""
-    if part not in plan.part_at:
-        raise NoPart(part)
-    return plan.part_at[part]
 
 
 def _turns_with(plan, state, part):

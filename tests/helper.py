@@ -238,15 +238,47 @@ class Maker:
 
     def heard(self, system, words):
         """HEARD words, each with a TEST of the SYSTEM."""
-        cells = [row[0] for row in system[0]]
-        roomy = [row[0] for row in system[1] if row[1]]
-        return tuple([(word, self.test(cells, roomy, [], 1)) for word in words])
+        found = []
+        cells, roomy = system[0], [row[0] for row in system[1] if row[1]]
+        labels = [
+            (part, deed[1]) for part, block in system[2] for deed in block if deed[0] == "label"
+        ]
+        for word in words:
+            if cells and self.random.random() < 0.6:
+                cell, top, _ = self.pick(*cells)
+                found.append((word, ("same", ("cell", cell), ("number", self.random.randint(0, top)))))
+            elif labels and self.random.random() < 0.5:
+                found.append((word, ("stands", *self.pick(*labels))))
+            else:
+                found.append((word, self.test([row[0] for row in cells], roomy, labels, 1)))
+        return tuple(found)
 
-    def small(self, most=60, **sizes):
-        """A SYSTEM with at most so many STATES."""
+    def looping(self, most=8, parts=2):
+        """A SYSTEM whose parts go round for ever or wait for each other; who is fair to
+        them matters."""
+        while True:
+            found = []
+            for name in "abc"[:parts]:
+                deeds = [
+                    self.pick(("pass",), counting("x"), counting("y"), ("let", "x", ONE), ("when", ("same", X, ONE)),
+                              ("when", ("same", Y, ("number", 0))))
+                    for _ in range(self.random.randint(1, 2))
+                ]
+                block = tuple(deeds)
+                if self.random.random() < 0.4:
+                    block = (("when", ("same", X, ("number", self.pick(0, 1)))), ("let", "y", ONE))
+                if self.random.random() < 0.6:
+                    block = (("again", (block,) + ((("pass",),),) * (self.random.random() < 0.2)),)
+                found.append((name, block))
+            system = ((("x", 1, 0), ("y", 1, 0)), (), tuple(found))
+            if 2 <= len(Goings(system).all_states(most + 1)) <= most:
+                return system
+
+    def small(self, most=60, least=4, **sizes):
+        """A SYSTEM with so many STATES."""
         while True:
             system = self.system(**sizes)
-            if len(Goings(system).all_states(most + 1)) <= most:
+            if system[0] and least <= len(Goings(system).all_states(most + 1)) <= most:
                 return system
 
 

@@ -29,6 +29,16 @@ ON = (("p", ("same", ("cell", "n"), ONE)),)
 BEGUN, LIT = ((0,), (0,), (), -1), ((0,), (1,), (), -1)
 CIRCLE = (((BEGUN, 0), (LIT, 0)), ((LIT, 1),))
 RANKS = ((BEGUN, 0, 2), (BEGUN, 1, 1), (LIT, 0, 2), (LIT, 1, 0))
+LAP, SEEN, SURE = (((0, 0),), ((0, 0),)), ("ever", ("word", "p")), ("or", ("word", "p"), ("true",))
+TWO = FREE[:2] + (FREE[2] + (("b", (("again", ((("pass",),),)),)),),)
+TWO_BEGUN, TWO_LIT = ((0, 0), (0,), (), -1), ((0, 0), (1,), (), -1)
+TWO_LAP, ROUND, LIT_ROW = ((), ((0, 0),)), ((), ((0, 1), (0, 1))), ((0, 0), (0, 1))
+NOTHING, TRUTH = (0, (), (), ((),)), ("same", ONE, ONE)
+CHOICE, ALONE, ALONE_LAP = ((TWO_LIT, "a"),), ((TWO_BEGUN, "b"),), ((), ((1, 0),))
+FENCE = (TWO_BEGUN, TWO_LIT)
+QUIET = ((("n", 1, 0),), (), (("a", (("let", "n", ONE),)), ("b", (("pass",), ("pass",)))))
+FEW = ((TWO_BEGUN, "b"), (((0, 1), (0,), (), -1), "b"))
+CHECKED = ((("n", 1, 0),), (), (("a", (("let", "n", ONE), ("check", ("less", ("cell", "n"), ONE)))),))
 CALLS = {
     "is_system": [(SAMPLE,), (listed(SAMPLE),)], "is_value": [(SAMPLE, X), (SAMPLE, list(X))],
     "is_test": [(SAMPLE, TEST), (SAMPLE, list(TEST))], "is_heard": [(SAMPLE, HEARD), (SAMPLE, list(HEARD))],
@@ -72,6 +82,33 @@ CALLS = {
     "led_from": [(FREE, ON, OFTEN, BEGUN, 1)],
     "is_full_circle": [(FREE, ON, OFTEN, CIRCLE), (FREE, ON, OFTEN, list(CIRCLE))],
     "is_ranks": [(FREE, ON, RARE, RANKS), (FREE, ON, RARE, list(RANKS))],
+    "is_lap": [(FREE, LAP), (FREE, list(LAP))], "lap_told": [(FREE, ON, LAP)],
+    "is_against": [(FREE, ON, SEEN, LAP), (FREE, ON, SEEN, list(LAP))], "kept_of": [(FREE, ON, (SEEN, ("true",), SEEN))],
+    "is_witness": [(FREE, ON, ("not", SEEN), LAP), (FREE, ON, ("not", SEEN), list(LAP))],
+    "soonest_told": [(FREE, ON, "p")], "latest_told": [(FREE, ON, "p")],
+    "is_verdict": [(FREE, ON, SEEN, ("against", *LAP)), (FREE, ON, SEEN, ["against", *LAP]), (FREE, ON, SURE, ("kept", ()))],
+    "ready_parts": [(SAMPLE, START)], "waiting_parts": [(TWO, TWO_LAP, ("none", "strong"))],
+    "is_fair": [(TWO, ("weak", "none"), TWO_LAP), (TWO, ("weak", "none"), list(TWO_LAP))], "left_out": [(TWO, TWO_LAP)],
+    "keeps_fairly": [(TWO, ON, SEEN, ("weak", "strong"))], "fair_against": [(TWO, ON, SEEN, ("weak", "strong"))],
+    "is_fair_against": [(TWO, ON, SEEN, ("none", "none"), TWO_LAP), (TWO, ON, SEEN, ("none", "none"), list(TWO_LAP))],
+    "falls": [(TWO, ON, RARE, ("weak", "none")), (TWO, ON, OFTEN, ("weak", "none"))],
+    "is_falls": [(TWO, ON, NOTHING, ("weak", "none"), ((), ())), (TWO, ON, NOTHING, ("weak", "none"), [(), ()])],
+    "weak_is_enough": [(TWO, ON, SEEN, ("weak", "strong"))], "can_be_left_out": [(TWO, ("strong", "none"))],
+    "leaving_out": [(TWO, ("strong", "none"), ("b",)), (TWO, ("strong", "none"), ())],
+    "is_leaving_out": [(TWO, ("strong", "none"), ("b",), TWO_LAP), (TWO, ("strong", "none"), ("b",), list(TWO_LAP))],
+    "fair_on": [(TWO, TWO_LIT, ("strong", "none"))],
+    "is_fair_on": [(TWO, TWO_LIT, ("strong", "none"), ROUND), (TWO, TWO_LIT, ("strong", "none"), list(ROUND))],
+    "touched": [(SAMPLE, "a", 3)], "heard_touched": [(HEARD,)], "shared": [(SAMPLE, HEARD, "a")],
+    "apart_places": [(TWO, (), "b")], "may_go_alone": [(TWO, (), TWO_BEGUN)],
+    "is_choice": [(TWO, (), CHOICE), (TWO, (), list(CHOICE))], "is_good": [(QUIET, (), FEW), (QUIET, (), list(FEW))],
+    "alone_lap": [(TWO, (), CHOICE), (TWO, (), ALONE)],
+    "is_alone_lap": [(TWO, (), ALONE, ALONE_LAP), (TWO, (), ALONE, list(ALONE_LAP))], "good_choice": [(TWO, ON), (TWO, ())],
+    "fewer_turns": [(TWO, CHOICE, TWO_BEGUN)], "fewer_states": [(TWO, CHOICE)], "how_many": [(TWO, CHOICE)],
+    "is_come_to": [(SAMPLE, START), (SAMPLE, list(START))], "is_row_to": [(TWO, TWO_LIT, LIT_ROW), (TWO, TWO_LIT, list(LIT_ROW))],
+    "how_many_rows": [(TWO, TWO_BEGUN, 3)], "who_waits": [(OTHER, ((0, 1), (2,), ((), ()), -1))],
+    "broken_row": [(CHECKED, "a", 1)], "is_broken_row": [(CHECKED, "a", 1, ((0, 0), (0, 1))), (CHECKED, "a", 1, [(0, 0), (0, 1)])],
+    "never_both": [(TWO, "a", "b")], "held_ever": [(TWO, "n")], "most_in": [(SAMPLE, "q")],
+    "is_fence": [(TWO, TRUTH, FENCE), (TWO, TRUTH, list(FENCE))], "soonest": [(SAMPLE, START, ("not", LOW))],
 }
 BY_ARGUMENTS = {
     ("system",): [(SAMPLE,), (OTHER,)], ("system", "part"): [(SAMPLE, "a"), (SAMPLE, "b"), (OTHER, "take")],
@@ -79,8 +116,12 @@ BY_ARGUMENTS = {
     ("system", "state"): [(SAMPLE, STATE), (SAMPLE, START)], ("formula",): [(WAIT,)],
     ("formula", "loop"): [(WAIT, LOOP)], ("loop",): [(LOOP,)], ("machine",): [(OFTEN,), (RARE,)],
     ("system", "heard", "machine"): [(FREE, ON, OFTEN), (FREE, ON, RARE)],
+    ("system", "heard", "formula"): [(FREE, ON, SEEN), (FREE, ON, SURE)], ("system", "test"): [(FREE, ON[0][1])],
 }
-LISTS = ("states", "true_loops", "come_pairs", "led_from")
+LISTS = (
+    "states", "true_loops", "come_pairs", "led_from", "keeping_states", "least_kinds", "fewer_states", "all_states", "layers",
+    "stuck_states", "ended_states", "lost_states",
+)
 
 
 def all_calls():
@@ -131,7 +172,7 @@ class Arguments(unittest.TestCase):
                     self.assertIsNot(one, other)
                     one.clear()
                     self.assertEqual(call(*given), other)
-                    one = tuple(other)
+                    one = tuple([tuple(row) for row in other]) if call.__name__ == "layers" else tuple(other)
                 self.assertFalse(has_list(one), one)
 
     def test_what_tells_whether_tells_true_or_false(self):

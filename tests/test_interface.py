@@ -90,9 +90,47 @@ INTERFACE = {
         ranks(system, heard, machine), is_ranks(system, heard, machine, thing),
         fewest_pairs(system, heard, machine)
     """,
+    "verdicts": """
+        is_lap(system, thing), lap_told(system, heard, lap), keeps(system, heard, formula),
+        against(system, heard, formula), is_against(system, heard, formula, thing),
+        witness(system, heard, formula), is_witness(system, heard, formula, thing),
+        kept_of(system, heard, formulas), keeping_states(system, heard, formula),
+        hangs_on(system, heard, formula), soonest_told(system, heard, word), latest_told(system,
+        heard, word), verdict(system, heard, formula), is_verdict(system, heard, formula, thing)
+    """,
+    "fair": """
+        ready_parts(system, state), waiting_parts(system, lap, kinds), is_fair(system, kinds,
+        thing), left_out(system, lap), keeps_fairly(system, heard, formula, kinds),
+        fair_against(system, heard, formula, kinds), is_fair_against(system, heard, formula,
+        kinds, thing), falls(system, heard, machine, kinds), is_falls(system, heard, machine,
+        kinds, thing), least_kinds(system, heard, formula), must_be_fair(system, heard,
+        formula), weak_is_enough(system, heard, formula, kinds), can_be_left_out(system, kinds),
+        leaving_out(system, kinds, some), is_leaving_out(system, kinds, some, thing),
+        fair_on(system, state, kinds), is_fair_on(system, state, kinds, thing)
+    """,
+    "fewer": """
+        touched(system, part, number), heard_touched(heard), shared(system, heard, part),
+        apart_places(system, heard, part), may_go_alone(system, heard, state), is_choice(system,
+        heard, thing), is_good(system, heard, thing), alone_lap(system, heard, choice),
+        is_alone_lap(system, heard, choice, thing), good_choice(system, heard),
+        fewer_turns(system, choice, state), fewer_states(system, choice), how_many(system,
+        choice)
+    """,
+    "reach": """
+        all_states(system), how_many_states(system), is_come_to(system, thing),
+        turns_in(system), depth(system, state), layers(system), shortest_row(system, state),
+        is_row_to(system, state, thing), how_many_rows(system, state, number),
+        stuck_states(system), ended_states(system), stuck_row(system), who_waits(system, state),
+        surely_rests(system), longest_row(system), broken_checks(system), broken_row(system,
+        part, step), is_broken_row(system, part, step, thing), never_taken(system),
+        never_stood(system), never_both(system, part, other), held_ever(system, cell),
+        most_in(system, queue), always_so(system, test), row_against(system, test),
+        fence(system, test), is_fence(system, test, thing), can_still(system, test),
+        lost_states(system, test), lost_row(system, test), soonest(system, state, test)
+    """,
 }
 # Beside what the interface lists, these files hold what others of the package need.
-SHARED = {"loops": ["place_of_run"], "machines": ["loop_of", "least_bit"], "ranks": ["least_ranks", "are_ranks"]}
+SHARED = {"loops": ["place_of_run"], "machines": ["loop_of"], "ranks": ["least_ranks", "are_ranks"]}
 
 
 def calls_of(text):
