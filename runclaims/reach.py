@@ -184,8 +184,8 @@ def never_stood(system):
     found = []
     for part, name in enumerate(plan.part_rows):
         stood = {state[0][part]: True for state in field.states}
-        places = range(plan.charts[part].end + 1)
-        found.extend([(name, place) for place in places if place not in stood])
+        end = plan.charts[part].end
+        found.extend([(name, place) for place in range(end + 1) if place not in stood])
     return tuple(found)
 
 
