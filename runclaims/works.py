@@ -174,6 +174,6 @@ def one_set_works(works):
 def _level_behind(works, standing, level):
     """The set of marks to wait for behind a standing at which this one is waited for;
     how many there are, if none is left."""
-    while level < works.sets and works.masks[standing] & (1 << level):
+    while works.masks[standing] & (1 << level):
         level += 1
     return level

@@ -210,7 +210,9 @@ class Fairness(Case):
             self.assertEqual(left_out(system, lap), names(system, idle))
 
     def test_fair_from_each_state(self):
-        for maker, system, _ in samples(168, 40, 20):
+        maker = Maker(168)
+        for number in range(100):
+            system = maker.looping(20, maker.pick(2, 3)) if number % 2 else maker.small(20, parts=2)
             goings = Goings(system)
             states = goings.all_states()
             for state in maker.random.sample(states, min(4, len(states))):
@@ -282,6 +284,92 @@ class Falls(Case):
             if row[1] not in (("less",), ("mark", 0), ("part", "ann"), ("part", "bob")) or "True" in repr(row):
                 return False
         return True
+
+    def test_numbers_must_fall(self):
+        maker, seen = Maker(169), set()
+        for number in range(60):
+            system = maker.looping(12, 2)
+            heard = maker.heard(system, "p")
+            kinds = maker.pick(*all_kinds(system))
+            machine = machine_for(("and", maker.formula("p", 2), ("ever", ("always", ("word", "p")))))
+            found = falls(system, heard, machine, kinds)
+            if found is None or not found[0]:
+                continue
+            pairs = FairPairs(PlainPairs(system, heard, machine))
+            for _ in range(4):
+                order = list(range(9))
+                maker.random.shuffle(order)
+                place = maker.random.randint(0, 1)
+
+                def moved(row):
+                    return tuple([order[one] if at == place and one < 9 else one for at, one in enumerate(row)])
+
+                thing = (
+                    tuple([(*row[:2], moved(row[2])) for row in found[0]]),
+                    tuple(sorted([(moved(front), reason) for front, reason in found[1]])),
+                )
+                wanted = pairs.are_falls(kinds, thing)
+                seen.add(wanted)
+                self.assertIs(is_falls(system, heard, machine, kinds, thing), wanted)
+        self.assertEqual(seen, {True, False})
+
+    def test_a_round_without_a_strong_part_within_a_greater_one(self):
+        # ann may go on without turning x: then bob, who waits for it, is never ready.
+        turn = ("let", "x", ("gap", ONE, X))
+        system = SYSTEM[:2] + ((("ann", (("again", ((turn,), (("pass",),))),)), SYSTEM[2][1]),)
+        for kinds in all_kinds(system):
+            lap = fair_against(system, WIN, HOPE, kinds)
+            self.assertTrue(plain_fair(Goings(system), kinds, lap))
+            self.assertIsNone(falls(system, WIN, machine_for(("not", HOPE)), kinds))
+        self.assertEqual(least_kinds(system, WIN, HOPE), [])
+        self.assertEqual(must_be_fair(system, WIN, HOPE), ("ann", "bob"))
+        self.assertEqual(can_be_left_out(system, ("strong", "strong")), ("bob",))
+
+    def test_hand_overs(self):
+        # bob only takes; cy goes round beside: who gives takes part as much as who takes.
+        give, take = ("again", ((("put", "h", ONE),),)), ("again", ((("get", "h", "x"),),))
+        system = (
+            (("x", 1, 0),), (("h", 0, 1),),
+            (("ann", (give,)), ("bob", (take,)), ("cy", (("again", ((("pass",),),)),))),
+        )
+        self.assertEqual(ready_parts(system, begin(system)), ("ann", "bob", "cy"))
+        self.assertEqual(left_out(system, ((), ((0, 0, 1, 0),))), ("cy",))
+        self.assertEqual(left_out(system, ((), ((2, 0),))), ("ann", "bob"))
+        hope = ("ever", ("word", "on"))
+        heard = (("on", ("same", X, ONE)),)
+        self.assertEqual(
+            least_kinds(system, heard, hope), [("none", "weak", "none"), ("weak", "none", "none")],
+        )
+        self.assertEqual(must_be_fair(system, heard, hope), ())
+        for kinds in all_kinds(system):
+            self.assertTrue(plain_fair(Goings(system), kinds, fair_on(system, begin(system), kinds)))
+            found = falls(system, heard, machine_for(("not", hope)), kinds)
+            self.assertIs(found is not None, kinds[:2] != ("none", "none"))
+        self.assertEqual(can_be_left_out(system, ("strong", "none", "none")), ("cy",))
+
+    def test_a_part_that_takes_part_is_no_reason(self):
+        system = ((("x", 1, 0),), (), (("ann", (("again", ((("pass",),),)),)), ("bob", (("again", ((("pass",),),)),))))
+        here = begin(system)
+        for kinds in all_kinds(system):
+            for name in ("ann", "bob"):
+                for row in ((0,), (0, 0)):
+                    thing = (((here, 0, row),), tuple([(row[:many + 1], ("part", name)) for many in range(len(row))]))
+                    pairs = FairPairs(PlainPairs(system, (), FREELY))
+                    self.assertFalse(pairs.are_falls(kinds, thing))
+                    self.assertIs(is_falls(system, (), FREELY, kinds, thing), False)
+
+    def test_reasons_that_do_not_hold(self):
+        here = begin(STILL)
+        for marks, number, wanted in (
+            (((), (0,)), 0, True), (((), (0,)), 1, False), (((0,), ()), 0, False), (((0,), ()), 1, True), (((0,), (0,)), 1, False),
+        ):
+            machine, thing = FREELY[:3] + (marks,), (((here, 0, (5,)),), (((5,), ("mark", number)),))
+            self.assertIs(is_falls(STILL, (), machine, ("none",), thing), wanted)
+        # bob waits for ever, and is ready nowhere.
+        system = SYSTEM[:2] + ((("ann", (("again", ((("pass",),),)),)), ("bob", (("when", ("less", ONE, ONE)),))),)
+        thing = (((begin(system), 0, (0,)),), (((0,), ("part", "bob")),))
+        for kinds in all_kinds(system):
+            self.assertIs(is_falls(system, (), FREELY, kinds, thing), False)
 
     def test_weak_parts(self):
         # ann goes round for ever; bob is always ready: weak is enough.
