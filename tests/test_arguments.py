@@ -3,9 +3,10 @@
 import copy
 import importlib
 import inspect
+import itertools
 import unittest
 
-from helper import LOW, ONE, OTHER, SAMPLE, SET_X, X, Y, listed
+from helper import JUNK, LOW, ONE, OTHER, SAMPLE, SET_X, X, Y, changed_things, deep, listed
 from test_interface import INTERFACE, calls_of
 
 STATE = ((1, 2), (3, 2), ((1,),), 1)
@@ -181,6 +182,14 @@ class Arguments(unittest.TestCase):
                 with self.subTest(call.__name__):
                     self.assertIs(type(call(*given)), bool)
                     self.assertIs(call(*given), not has_list(given[-1]))
+
+    def test_any_thing_may_be_asked(self):
+        for call, names, given in all_calls():
+            if "thing" in names and not has_list(given[-1]):
+                near = list(itertools.islice(changed_things(given[-1]), 300))
+                for thing in list(JUNK) + near + [((), JUNK), (JUNK, JUNK), (deep(28),) * 3, ("kept", JUNK)]:
+                    with self.subTest(call.__name__, thing=thing):
+                        self.assertIs(type(call(*given[:-1], thing)), bool)
 
     def test_all_arguments_are_named(self):
         for call, names, _ in all_calls():
