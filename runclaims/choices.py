@@ -3,6 +3,7 @@
 from runclaims.fields import Field
 from runclaims.forms import is_state_form
 from runclaims.graphs import components, explored, goes_on
+from runclaims.laps import lap_states
 from runclaims.moves import ready_turns, state_after
 from runclaims.plain import is_ascending, is_row
 from runclaims.touching import places_apart
@@ -18,6 +19,17 @@ def turns_by(plan, chosen, state):
     if state in chosen:
         return ready_pairs(plan, state, chosen[state])
     return ready_turns(plan, state)
+
+
+def fewer_lap_states(plan, chosen, thing):
+    """The STATES ahead of the TURNS of thing, if it is a FEWER LAP; otherwise None."""
+    found = lap_states(plan, plan.first, thing)
+    if found is None:
+        return None
+    turns = thing[0] + thing[1]
+    if not all([turn in turns_by(plan, chosen, state) for state, turn in zip(found, turns)]):
+        return None
+    return found
 
 
 def fewer_field(plan, chosen):

@@ -1,12 +1,13 @@
 """Fewer orders: what is touched, places apart, CHOICES, FEWER TURNS."""
 
 from runclaims.choices import (
-    alone_round, choice_in, fewer_field, found_choice, full_choice_in, is_choice_form, turns_by,
+    alone_round, choice_in, fewer_field, fewer_lap_states, found_choice, full_choice_in,
+    is_choice_form, turns_by,
 )
 from runclaims.errors import NoNumber, Unfit
 from runclaims.fields import field_of
 from runclaims.graphs import circle_in, way_to
-from runclaims.laps import lap_of, lap_states
+from runclaims.laps import lap_of
 from runclaims.moves import ready_turns
 from runclaims.plain import as_set, frozen
 from runclaims.plans import Plan, part_number
@@ -76,11 +77,8 @@ def alone_lap(system, heard, choice):
 def is_alone_lap(system, heard, choice, thing):
     """Whether thing is such a LAP."""
     plan, chosen = _choice_of(system, heard, choice)
-    found = lap_states(plan, plan.first, thing)
+    found = fewer_lap_states(plan, chosen, thing)
     if found is None:
-        return False
-    turns = thing[0] + thing[1]
-    if not all([turn in turns_by(plan, chosen, state) for state, turn in zip(found, turns)]):
         return False
     return all([state in chosen for state in found[len(thing[0]):]])
 

@@ -219,3 +219,26 @@ def _lasting(one, other, back, for_ever):
             behind = other[at] or (one[at] and behind)
             found[at] = behind
     return found
+
+
+def literal_between(one, other):
+    """A word, or not a word, that is true where one is told and not where other is."""
+    for word in one:
+        if word not in other:
+            return ("word", word)
+    return [("not", ("word", word)) for word in other if word not in one][0]
+
+
+def just(told, words):
+    """A FORMULA that is true just where of these words those are told that are in told."""
+    return all_of([("word", word) if word in told else ("not", ("word", word)) for word in words])
+
+
+def all_of(formulas):
+    """One or more FORMULAS joined by and."""
+    row = list(formulas)
+    # Joined two by two: so it does not get deep, however many there are.
+    while len(row) > 1:
+        joined = [("and", row[at], row[at + 1]) for at in range(0, len(row) - 1, 2)]
+        row = joined + (row[-1:] if len(row) - 2 * len(joined) else [])
+    return row[0]

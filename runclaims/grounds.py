@@ -2,7 +2,9 @@
 of which a FORMULA is true."""
 
 from runclaims.errors import NoNumber
-from runclaims.formulaparts import add_rows, formula_rows, formulas_of, truths_of
+from runclaims.formulaparts import (
+    add_rows, formula_rows, formulas_of, just, literal_between, truths_of,
+)
 from runclaims.formulas import has_next, inward, is_formula, is_true
 from runclaims.loops import are_alike, told_there, without_repeats
 from runclaims.plain import as_set, frozen, is_ascending, is_number, is_number_from, is_row
@@ -57,7 +59,7 @@ def telling(loop, other):
     while told_there(loop, number) == told_there(other, number):
         number += 1
     one, another = told_there(loop, number), told_there(other, number)
-    formula = _literal_between(one, another)
+    formula = literal_between(one, another)
     for _ in range(number):
         formula = ("next", formula)
     return formula
@@ -220,34 +222,16 @@ def _has_wanted(rows, truths, there, triple, back):
     return (kind == "ever" or one) and (at, behind, number - 1) in counted
 
 
-def _literal_between(one, other):
-    """A word, or not a word, that is true where one is told and not where other is."""
-    for word in one:
-        if word not in other:
-            return ("word", word)
-    return [("not", ("word", word)) for word in other if word not in one][0]
-
-
 def _words_in(sets):
     """The words that are told in some of these sets and not in all of them."""
     found = as_set([word for told in sets for word in told])
     return [word for word in found if not all([word in told for told in sets])]
 
 
-def _just(told, words):
-    """A FORMULA that is true just where of these words those are told that are in told."""
-    row = [("word", word) if word in told else ("not", ("word", word)) for word in words]
-    # Joined two by two: so it does not get deep, however many words there are.
-    while len(row) > 1:
-        joined = [("and", row[at], row[at + 1]) for at in range(0, len(row) - 1, 2)]
-        row = joined + (row[-1:] if len(row) - 2 * len(joined) else [])
-    return row[0]
-
-
 def _comes_to(loop, number, words):
     """A FORMULA that tells the run of a LOOP without repeats up to this place."""
-    formula = _just(told_there(loop, number), words)
+    formula = just(told_there(loop, number), words)
     for at in reversed(range(number)):
-        here = _just(told_there(loop, at), words)
+        here = just(told_there(loop, at), words)
         formula = ("and", here, ("until", here, formula))
     return formula

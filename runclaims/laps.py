@@ -3,7 +3,9 @@
 from runclaims.errors import NoWord
 from runclaims.formulaparts import formula_rows, truths_of
 from runclaims.forms import is_lap_form
+from runclaims.graphs import lasso
 from runclaims.moves import ready_turns, state_after, told_in
+from runclaims.plain import frozen
 
 
 def states_along(plan, state, turns):
@@ -61,6 +63,21 @@ def lap_of(rows, found):
     first, again = found
     turns = turns_along(rows, first + again + again[:1])
     return tuple(turns[:len(first)]), tuple(turns[len(first):])
+
+
+def lap_in(pairs):
+    """A LAP along which PAIRS go round by all marks; None if there is none."""
+    found = lasso(pairs.behind, pairs.starts, pairs.masks, pairs.full)
+    if found is None:
+        return None
+    return lap_of(pairs.rows, found)
+
+
+def heard_formula(heard, formula):
+    """HEARD words and a FORMULA about them, of tuples alone."""
+    words, wanted = frozen(heard), frozen(formula)
+    refuse_unheard(words, (wanted,))
+    return words, wanted
 
 
 def refuse_unheard(heard, formulas):

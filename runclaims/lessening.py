@@ -1,6 +1,7 @@
 """Works made less: standings that are alike in all that follows become one."""
 
 from runclaims.graphs import components, goes_on, mask_of
+from runclaims.plain import numbered
 from runclaims.works import Works, lean_works
 
 
@@ -50,11 +51,11 @@ def _with_set(kept, row):
 
 def _merged(works):
     """The same with one standing for all those of the same marks whose moves lead alike."""
-    lots = _numbered(works.masks)
+    lots = numbered(works.masks)
     many = 0
     while max(lots, default=-1) + 1 > many:
         many = max(lots) + 1
-        lots = _numbered([
+        lots = numbered([
             (lots[node], tuple(_moves_between(row, lots))) for node, row in enumerate(works.rows)
         ])
     firsts = {}
@@ -65,15 +66,6 @@ def _merged(works):
     starts = sorted(set([lots[node] for node in works.starts]))
     masks = [works.masks[firsts[lot]] for lot in firsts]
     return Works(works.words, starts, rows, masks, works.sets)
-
-
-def _numbered(keys):
-    """For each key the number of the first one that is like it, among unlike ones."""
-    numbers = {}
-    for key in keys:
-        if key not in numbers:
-            numbers[key] = len(numbers)
-    return [numbers[key] for key in keys]
 
 
 def _moves_between(row, lots):

@@ -49,10 +49,10 @@ def without_repeats(loop):
     """The LOOP with the fewest places that has the run without repeats."""
     front, circle = frozen(loop)
     # A round that comes again begins with a repeat where it begins as it ended.
-    again = _squeezed(circle[-1:] + circle)[1:]
+    again = squeezed_sets(circle[-1:] + circle)[1:]
     if again == ():
         again = circle[:1]
-    return least_loop((_squeezed(front + circle), again))
+    return least_loop((squeezed_sets(front + circle), again))
 
 
 def alike_but_repeats(loop, other):
@@ -86,7 +86,7 @@ def _period(circle):
     return len(circle)
 
 
-def _squeezed(sets):
+def squeezed_sets(sets):
     """The sets without those that are like the one right ahead of them."""
     return tuple([told for at, told in enumerate(sets) if at == 0 or sets[at - 1] != told])
 

@@ -67,6 +67,24 @@ def is_ascending(row):
     return all([row[at] < row[at + 1] for at in range(len(row) - 1)])
 
 
+def numbered(keys):
+    """For each key the number of the first one that is like it, among unlike ones."""
+    numbers = {}
+    for key in keys:
+        if key not in numbers:
+            numbers[key] = len(numbers)
+    return [numbers[key] for key in keys]
+
+
 def least_bit(bits):
     """The place of the least of these bits."""
     return (bits & -bits).bit_length() - 1
+
+
+def bits_set(bits):
+    """The places of these bits, ascending."""
+    found = []
+    while bits:
+        found.append(least_bit(bits))
+        bits &= bits - 1
+    return found

@@ -4,10 +4,10 @@ from runclaims.errors import NotReady, NoWord, Unfit
 from runclaims.fields import field_of, pairs_from, pairs_of
 from runclaims.formulas import opposite, words_of
 from runclaims.graphs import (
-    components, come_from, depths_from, full_components, goes_on, lasso, live_nodes,
+    components, come_from, depths_from, full_components, goes_on, live_nodes,
 )
 from runclaims.laps import (
-    is_lap_where, lap_of, lap_states, refuse_unheard, states_along, told_loop,
+    heard_formula, is_lap_where, lap_in, lap_states, refuse_unheard, states_along, told_loop,
 )
 from runclaims.makers import machine_for, one_set
 from runclaims.plain import frozen
@@ -42,25 +42,25 @@ def keeps(system, heard, formula):
 
 def against(system, heard, formula):
     """A LAP that tells a LOOP of which it is not true; None if there is none."""
-    words, wanted = _heard_formula(heard, formula)
+    words, wanted = heard_formula(heard, formula)
     return _lap_taken(field_of(system), words, works_against(wanted))
 
 
 def is_against(system, heard, formula, thing):
     """Whether thing is a LAP that tells a LOOP of which it is not true."""
-    words, wanted = _heard_formula(heard, formula)
+    words, wanted = heard_formula(heard, formula)
     return is_lap_where(Plan(frozen(system)), words, wanted, thing, False)
 
 
 def witness(system, heard, formula):
     """A LAP that tells a LOOP of which it is true; None if there is none."""
-    words, wanted = _heard_formula(heard, formula)
+    words, wanted = heard_formula(heard, formula)
     return _lap_taken(field_of(system), words, works_for(wanted))
 
 
 def is_witness(system, heard, formula, thing):
     """Whether thing is a LAP that tells a LOOP of which it is true."""
-    words, wanted = _heard_formula(heard, formula)
+    words, wanted = heard_formula(heard, formula)
     return is_lap_where(Plan(frozen(system)), words, wanted, thing, True)
 
 
@@ -77,7 +77,7 @@ def kept_of(system, heard, formulas):
 
 def keeping_states(system, heard, formula):
     """The ascending list of the STATES come to from which on it is kept."""
-    words, wanted = _heard_formula(heard, formula)
+    words, wanted = heard_formula(heard, formula)
     field = field_of(system)
     begun = list(range(len(field.states)))
     pairs = pairs_from(field, works_against(wanted), field.told(words), begun)
@@ -89,7 +89,7 @@ def keeping_states(system, heard, formula):
 
 def hangs_on(system, heard, formula):
     """The set of the words in it by which the verdict turns."""
-    words, wanted = _heard_formula(heard, formula)
+    words, wanted = heard_formula(heard, formula)
     field, works = field_of(system), works_against(wanted)
     told = field.told(words)
     kept = _is_kept(field, told, works)
@@ -127,19 +127,19 @@ def latest_told(system, heard, word):
 
 def verdict(system, heard, formula):
     """The least RANKS if it is kept, else a LAP against it."""
-    words, wanted = _heard_formula(heard, formula)
+    words, wanted = heard_formula(heard, formula)
     field, works = field_of(system), _works_of_verdict(wanted)
     pairs = pairs_of(field, works, words)
     found = least_ranks(field, pairs)
     if found is not None:
         return ("kept", found)
-    turns, circle = _lap_in(pairs)
+    turns, circle = lap_in(pairs)
     return ("against", turns, circle)
 
 
 def is_verdict(system, heard, formula, thing):
     """Whether thing is a verdict: RANKS, least or not, or a LAP against it."""
-    words, wanted = _heard_formula(heard, formula)
+    words, wanted = heard_formula(heard, formula)
     if type(thing) is not tuple or len(thing) == 0:
         return False
     if thing[0] == "against":
@@ -148,13 +148,6 @@ def is_verdict(system, heard, formula, thing):
         return False
     field, works = field_of(system), _works_of_verdict(wanted)
     return are_ranks(field, works, pairs_of(field, works, words), thing[1])
-
-
-def _heard_formula(heard, formula):
-    """HEARD words and a FORMULA about them, of tuples alone."""
-    words, wanted = frozen(heard), frozen(formula)
-    refuse_unheard(words, (wanted,))
-    return words, wanted
 
 
 def _is_kept(field, told, works):
@@ -166,15 +159,7 @@ def _is_kept(field, told, works):
 
 def _lap_taken(field, words, works):
     """A LAP that tells a LOOP that the Works take; None if there is none."""
-    return _lap_in(pairs_of(field, works, words))
-
-
-def _lap_in(pairs):
-    """A LAP along which PAIRS go round by all marks; None if there is none."""
-    found = lasso(pairs.behind, pairs.starts, pairs.masks, pairs.full)
-    if found is None:
-        return None
-    return lap_of(pairs.rows, found)
+    return lap_in(pairs_of(field, works, words))
 
 
 def _works_of_verdict(formula):

@@ -7,6 +7,7 @@ import itertools
 import unittest
 
 from helper import JUNK, LOW, ONE, OTHER, SAMPLE, SET_X, X, Y, changed_things, deep, listed
+from runclaims.edits import edited
 from test_interface import INTERFACE, calls_of
 
 STATE = ((1, 2), (3, 2), ((1,),), 1)
@@ -40,6 +41,14 @@ FENCE = (TWO_BEGUN, TWO_LIT)
 QUIET = ((("n", 1, 0),), (), (("a", (("let", "n", ONE),)), ("b", (("pass",), ("pass",)))))
 FEW = ((TWO_BEGUN, "b"), (((0, 1), (0,), (), -1), "b"))
 CHECKED = ((("n", 1, 0),), (), (("a", (("let", "n", ONE), ("check", ("less", ("cell", "n"), ONE)))),))
+QUIET_LAP = (((0, 0), (1, 0), (1, 1)), ((),))
+QUIET_FEW = (((1, 0), (1, 1), (0, 0)), ((),))
+CLOCK = FREE[:2] + ((("b", (("again", ((("pass",),),)),)),),)
+ROW, STEP = ((), ("p",), ()), ("some", ("and", ("word", "p"), ("not", ("word", "q"))))
+BOTH = (FREE, ON, CLOCK, ON)
+PAIRING, FOLLOWING = ((BEGUN, BEGUN), (LIT, LIT)), (((((0,), (0,), (), -1)), BEGUN),)
+EDIT = ("insert", "a", (2, 0, 1), ("pass",))
+ALIKE = edited(FREE, ("insert", "a", (0,), ("pass",)))
 CALLS = {
     "is_system": [(SAMPLE,), (listed(SAMPLE),)], "is_value": [(SAMPLE, X), (SAMPLE, list(X))],
     "is_test": [(SAMPLE, TEST), (SAMPLE, list(TEST))], "is_heard": [(SAMPLE, HEARD), (SAMPLE, list(HEARD))],
@@ -105,6 +114,22 @@ CALLS = {
     "alone_lap": [(TWO, (), CHOICE), (TWO, (), ALONE)],
     "is_alone_lap": [(TWO, (), ALONE, ALONE_LAP), (TWO, (), ALONE, list(ALONE_LAP))], "good_choice": [(TWO, ON), (TWO, ())],
     "fewer_turns": [(TWO, CHOICE, TWO_BEGUN)], "fewer_states": [(TWO, CHOICE)], "how_many": [(TWO, CHOICE)],
+    "fewer_against": [(QUIET, ON, ("not", SEEN), FEW)], "keeps_by_fewer": [(QUIET, ON, SEEN, FEW)],
+    "is_fewer_against": [(QUIET, ON, ("not", SEEN), FEW, QUIET_FEW), (QUIET, ON, ("not", SEEN), FEW, list(QUIET_FEW))],
+    "fewer_like": [(QUIET, ON, FEW, QUIET_LAP)],
+    "is_fewer_like": [(QUIET, ON, FEW, QUIET_LAP, QUIET_FEW), (QUIET, ON, FEW, QUIET_LAP, list(QUIET_FEW))],
+    "rows_told": [(FREE, ON, 3)], "how_many_told": [(FREE, ON, 3)], "is_row": [(FREE, ON, ROW), (FREE, ON, list(ROW))],
+    "is_formula_apart": [(*BOTH, ("not", ("next", ("word", "p")))), (*BOTH, ["not", ("next", ("word", "p"))])],
+    "keeps_soon": [(FREE, ON, AHEAD)], "squeezed": [(ROW + ROW,)], "is_step_formula": [(STEP,), (list(STEP),)],
+    "is_plain": [(STEP,), (list(STEP),)], "steps_deep": [(STEP,)], "is_step_true": [(FREE, ON, LIT, STEP)],
+    "is_pairing": [(FREE, ON, FREE, ON, PAIRING), (FREE, ON, FREE, ON, list(PAIRING))],
+    "is_following": [(CLOCK, ON, FREE, ON, FOLLOWING), (CLOCK, ON, FREE, ON, list(FOLLOWING))],
+    "is_step_apart": [(*BOTH, STEP), (*BOTH, list(STEP))], "is_plain_apart": [(*BOTH, STEP), (*BOTH, list(STEP))],
+    "lots": [(FREE, ON), (FREE, ())], "least_model": [(FREE, ON), (FREE, ())], "in_one_lot": [(FREE, (), BEGUN, LIT)],
+    "edited": [(SAMPLE, EDIT)], "undone_by": [(SAMPLE, EDIT)], "edits_commute": [(SAMPLE, EDIT, ("drop", "b"))],
+    "can_edit": [(SAMPLE, EDIT), (SAMPLE, list(EDIT))], "squeezed_alike": [(FREE, ALIKE, ON)],
+    "squeezed_apart": [(FREE, ALIKE, ON), (FREE, CLOCK, ON)],
+    "is_squeezed_apart": [(FREE, CLOCK, ON, (((), ("p",)), False)), (FREE, CLOCK, ON, [((), ("p",)), False])],
     "is_come_to": [(SAMPLE, START), (SAMPLE, list(START))], "is_row_to": [(TWO, TWO_LIT, LIT_ROW), (TWO, TWO_LIT, list(LIT_ROW))],
     "how_many_rows": [(TWO, TWO_BEGUN, 3)], "who_waits": [(OTHER, ((0, 1), (2,), ((), ()), -1))],
     "broken_row": [(CHECKED, "a", 1)], "is_broken_row": [(CHECKED, "a", 1, ((0, 0), (0, 1))), (CHECKED, "a", 1, [(0, 0), (0, 1)])],
@@ -117,11 +142,12 @@ BY_ARGUMENTS = {
     ("system", "state"): [(SAMPLE, STATE), (SAMPLE, START)], ("formula",): [(WAIT,)],
     ("formula", "loop"): [(WAIT, LOOP)], ("loop",): [(LOOP,)], ("machine",): [(OFTEN,), (RARE,)],
     ("system", "heard", "machine"): [(FREE, ON, OFTEN), (FREE, ON, RARE)],
+    ("one", "ones", "other", "others"): [BOTH, (FREE, ON, ALIKE, ON)],
     ("system", "heard", "formula"): [(FREE, ON, SEEN), (FREE, ON, SURE)], ("system", "test"): [(FREE, ON[0][1])],
 }
 LISTS = (
     "states", "true_loops", "come_pairs", "led_from", "keeping_states", "least_kinds", "fewer_states", "all_states", "layers",
-    "stuck_states", "ended_states", "lost_states",
+    "stuck_states", "ended_states", "lost_states", "rows_told", "lots", "paths_of",
 )
 
 

@@ -8,7 +8,7 @@ import unittest
 FOLDER = pathlib.Path(__file__).resolve().parent
 MODULES = (
     "errors", "systems", "language", "texts", "tables", "states", "loops", "formulas", "grounds",
-    "machines", "makers", "ranks", "verdicts", "fair", "fewer", "reach",
+    "machines", "makers", "ranks", "verdicts", "fair", "fewer", "fewerlaps", "sames", "pairings", "reach", "edits",
 )
 
 
@@ -50,8 +50,8 @@ class Examples(unittest.TestCase):
 
     def test_examples(self):
         many = {
-            "point4": 4, "point5": 9, "point6": 3, "point7": 6, "point8": 5, "point9": 7, "point10": 5,
-            "point11": 4, "point12": 4, "point14": 8,
+            "point4": 4, "point5": 9, "point6": 3, "point7": 6, "point8": 7, "point9": 7, "point10": 5,
+            "point11": 4, "point12": 6, "point13": 4, "point14": 8, "point15": 4,
         }
         for path in sorted((FOLDER / "examples").iterdir()):
             with self.subTest(path.name):

@@ -3,22 +3,16 @@
 import itertools
 import unittest
 
-from goings import Goings
-from helper import JUNK, LOW, ONE, SET_X, X, Y, Case, Maker, changed_things, free_clock, listed, with_parts
+from fewers import Fewer, plain_apart, plain_heard, plain_shared, plain_touched, samples, some_choice
+from helper import JUNK, LOW, ONE, SET_X, X, Y, Case, changed_things, free_clock, listed, with_parts
 from laps import plain_lap, some_laps
-from plainmachines import closure, entries_of_rounds, met
 from runclaims.errors import NoNumber, NoPart, Unfit
 from runclaims.fewer import (
     alone_lap, apart_places, fewer_states, fewer_turns, good_choice, heard_touched, how_many, is_alone_lap,
     is_choice, is_good, may_go_alone, shared, touched,
 )
-from runclaims.formulas import has_next, opposite
-from runclaims.makers import machine_for
-from runclaims.systems import test_cells, test_labels, test_queues
-from runclaims.tables import (
-    end_of, held_places, how_many_places, label_place, step_asks, step_labels, step_lets, step_queues,
-    step_reads, steps_at, steps_of,
-)
+from runclaims.formulas import has_next
+from runclaims.tables import label_place, steps_of
 from runclaims.verdicts import keeps
 
 ANN = (("ann", (("let", "x", ONE), ("let", "y", ONE))), ("bob", (("pass",), ("pass",))))
@@ -28,120 +22,6 @@ FEW = ((((0, 0), (0, 0), (), -1), "bob"), (((0, 1), (0, 0), (), -1), "bob"))
 RING = ((("z", 1, 0),), (), (("cy", (("again", ((("pass",),),)),)), ("dan", (("let", "z", ONE),))))
 REST = (((0, 0), (0,), (), -1), "cy")
 FULL, TEST = ("full", "q"), ("stands", "b", "m")
-
-
-def joined(rows):
-    return tuple([tuple(sorted({one for row in rows for one in row[at]})) for at in range(3)])
-
-
-def plain_touched(system, part, number):
-    place, deed, _, _ = steps_of(system, part)[number]
-    numbers = steps_at(system, part, place) if deed == ("else",) else (number,)
-    return joined([
-        (
-            step_reads(system, part, at) + step_lets(system, part, at), step_queues(system, part, at),
-            step_asks(system, part, at) + tuple([(part, label) for label in step_labels(system, part, at)]),
-        )
-        for at in numbers
-    ])
-
-
-def plain_heard(heard):
-    return joined([(test_cells(test), test_queues(test), test_labels(test)) for _, test in heard])
-
-
-def plain_shared(system, heard, part):
-    rows = [plain_heard(heard)]
-    for other, _ in system[2]:
-        if other != part:
-            rows.extend([plain_touched(system, other, at) for at in range(len(steps_of(system, other)))])
-    return joined(rows)
-
-
-def handed(system, part, place):
-    """The queues of room 0 that STEPS from this place put into or get from."""
-    rooms = {row[0]: row[1] for row in system[1]}
-    deeds = [steps_of(system, part)[at][1] for at in steps_at(system, part, place)]
-    return {deed[1] for deed in deeds if deed[0] in ("put", "get") and rooms[deed[1]] == 0}
-
-
-def plain_apart(system, heard, part):
-    common = plain_shared(system, heard, part)
-    waited = set()
-    for other, _ in system[2]:
-        if other != part:
-            elses = {step[0] for step in steps_of(system, other) if step[1] == ("else",)}
-            for place in set(held_places(system, other)) | elses:
-                waited |= handed(system, other, place)
-    found = []
-    for place in range(how_many_places(system, part)):
-        good = place != end_of(system, part)
-        for number in steps_at(system, part, place):
-            own = plain_touched(system, part, number)
-            _, _, goal, once = steps_of(system, part)[number]
-            if once or any([set(one) & set(other) for one, other in zip(own, common)]) or handed(system, part, goal) & waited:
-                good = False
-        if good:
-            found.append(place)
-    return tuple(found)
-
-
-class Fewer:
-    """The STATES, and FEWER TURNS, by the words of the document."""
-
-    def __init__(self, system, heard):
-        self.goings, self.heard = Goings(system), heard
-        self.states = self.goings.all_states()
-        self.names = [row[0] for row in system[2]]
-        self.apart = [plain_apart(system, heard, name) for name in self.names]
-
-    def pairs(self, state, name):
-        part = self.names.index(name)
-        return tuple([turn for turn in self.goings.ready(state) if len(turn) == 2 and turn[0] == part])
-
-    def turns(self, choice, state):
-        told = dict(choice)
-        return self.pairs(state, told[state]) if state in told else self.goings.ready(state)
-
-    def leads(self, choice):
-        return lambda state: [self.goings.after(state, turn) for turn in self.turns(choice, state)]
-
-    def come(self, choice):
-        return met([self.goings.begin()], self.leads(choice))
-
-    def options(self):
-        """All pairs that may stand in a CHOICE."""
-        return [
-            (state, name) for state in self.states for part, name in enumerate(self.names)
-            if state[0][part] in self.apart[part] and self.pairs(state, name)
-        ]
-
-    def is_choice(self, thing):
-        states = [state for state, _ in thing]
-        if not all([pair in self.options() for pair in thing]):
-            return False
-        return list(thing) == sorted(thing) and len(set(states)) == len(states)
-
-    def is_good(self, choice):
-        told = dict(choice)
-        nodes = [state for state in self.come(choice) if state in told]
-        led = closure(nodes, lambda state: [goal for goal in self.leads(choice)(state) if goal in nodes])
-        return not any([state in led[state] for state in nodes])
-
-
-def samples(seed, many, most=14, words="p"):
-    maker = Maker(seed)
-    for _ in range(many):
-        system = maker.small(most, parts=maker.random.randint(2, 3))
-        yield maker, system, maker.heard(system, words)
-
-
-def some_choice(maker, fewer):
-    told = {}
-    for state, name in fewer.options():
-        if maker.random.random() < 0.5:
-            told[state] = name
-    return tuple(sorted(told.items()))
 
 
 class Touching(Case):
@@ -238,10 +118,7 @@ class Choices(Case):
 
     def is_alone(self, fewer, choice, lap):
         states = plain_lap(fewer.goings, lap)
-        turns = lap[0] + lap[1]
-        if not all([turn in fewer.turns(choice, state) for state, turn in zip(states, turns)]):
-            return False
-        return all([state in dict(choice) for state in states[len(lap[0]):]])
+        return fewer.is_lap(choice, lap) and all([state in dict(choice) for state in states[len(lap[0]):]])
 
     def assert_fewer(self, system, fewer, choice):
         come = fewer.come(choice)
@@ -324,23 +201,11 @@ class GoodChoices(Case):
                 formula = maker.formula("pq", 3)
                 while has_next(formula):
                     formula = maker.formula("pq", 3)
-                self.assertIs(keeps(system, heard, formula), self.kept_by_fewer(fewer, few, formula), (system, few))
+                self.assertIs(keeps(system, heard, formula), fewer.keeps(few, formula), (system, few))
                 ready = fewer.goings.ready
                 self.assertEqual({one for one in come if ready(one) == ((),)}, {one for one in fewer.states if ready(one) == ((),)})
                 self.assertEqual(self.broken(fewer, few, come), self.broken(fewer, (), fewer.states))
         self.assertGreater(less, 40)
-
-    def kept_by_fewer(self, fewer, choice, formula):
-        machine = machine_for(opposite(formula))
-        goings = fewer.goings
-
-        def leads(pair):
-            told = [word for word, test in fewer.heard if goings.test(pair[0], test)]
-            goals = [row[3] for row in machine[2] if row[0] == pair[1] and set(row[1]) <= set(told) and not set(row[2]) & set(told)]
-            return [(state, goal) for state in fewer.leads(choice)(pair[0]) for goal in goals]
-
-        starts = [(goings.begin(), standing) for standing in machine[1]]
-        return entries_of_rounds(starts, leads, lambda pair: pair[1], machine[3])[0] == []
 
     def broken(self, fewer, choice, states):
         found = set()

@@ -116,6 +116,33 @@ INTERFACE = {
         fewer_turns(system, choice, state), fewer_states(system, choice), how_many(system,
         choice)
     """,
+    "fewerlaps": """
+        fewer_against(system, heard, formula, choice), keeps_by_fewer(system, heard, formula,
+        choice), is_fewer_against(system, heard, formula, choice, thing), fewer_like(system,
+        heard, choice, lap), is_fewer_like(system, heard, choice, lap, thing)
+    """,
+    "sames": """
+        rows_told(system, heard, number), how_many_told(system, heard, number), is_row(system,
+        heard, thing), row_apart(one, ones, other, others), tell_alike(one, ones, other,
+        others), formula_apart(one, ones, other, others), keeps_soon(system, heard, formula),
+        is_formula_apart(one, ones, other, others, thing), squeezed(row)
+    """,
+    "pairings": """
+        is_step_formula(thing), is_plain(thing), steps_deep(formula), is_step_true(system,
+        heard, state, formula), greatest_pairing(one, ones, other, others), can_pair(one, ones,
+        other, others), greatest_following(one, ones, other, others), follows(one, ones, other,
+        others), is_pairing(one, ones, other, others, thing), is_following(one, ones, other,
+        others, thing), step_apart(one, ones, other, others), rounds_apart(one, ones, other,
+        others), is_step_apart(one, ones, other, others, thing), is_plain_apart(one, ones,
+        other, others, thing), plain_apart(one, ones, other, others), lots(system, heard),
+        least_model(system, heard), in_one_lot(system, heard, state, later)
+    """,
+    "edits": """
+        edited(system, edit), undone_by(system, edit), edits_commute(system, edit, later),
+        can_edit(system, thing), paths_of(system, part), never_full(system),
+        never_turned(system), squeezed_apart(system, other, heard), squeezed_alike(system,
+        other, heard), is_squeezed_apart(system, other, heard, thing)
+    """,
     "reach": """
         all_states(system), how_many_states(system), is_come_to(system, thing),
         turns_in(system), depth(system, state), layers(system), shortest_row(system, state),
@@ -130,7 +157,7 @@ INTERFACE = {
     """,
 }
 # Beside what the interface lists, these files hold what others of the package need.
-SHARED = {"loops": ["place_of_run"], "machines": ["loop_of"], "ranks": ["least_ranks", "are_ranks"]}
+SHARED = {"loops": ["place_of_run", "squeezed_sets"], "machines": ["loop_of"], "ranks": ["least_ranks", "are_ranks"]}
 
 
 def calls_of(text):

@@ -35,6 +35,7 @@ NODES = (
     ast.ListComp, ast.DictComp, ast.SetComp, ast.comprehension, ast.BinOp, ast.BoolOp,
     ast.UnaryOp, ast.Compare, ast.IfExp, ast.Starred, ast.JoinedStr, ast.FormattedValue,
     ast.Lambda, ast.keyword, ast.operator, ast.boolop, ast.unaryop, ast.cmpop, ast.Delete, ast.Del,
+    ast.Try, ast.ExceptHandler,
 )
 FILES = sorted(FOLDER.glob("*.py"))
 
