@@ -84,7 +84,7 @@ def is_choice_form(plan, thing):
 def alone_round(field, chosen):
     """The numbers of STATES of a Field of FEWER TURNS between which it goes round, all of
     them in the CHOICE; None if there are none."""
-    nodes = [at for at, state in enumerate(field.states) if state in chosen]
+    nodes = [at for at, state in enumerate(field.nodes) if state in chosen]
     for row in components(field.behind, nodes):
         if goes_on(field.behind, row):
             return row

@@ -87,7 +87,7 @@ def never_full(system):
     rooms = field.plan.rooms
     found = []
     for at, name in enumerate(queue_names(system)):
-        most = max([len(state[2][at]) for state in field.states])
+        most = max([len(state[2][at]) for state in field.nodes])
         if most < rooms[at]:
             found.append(name)
     return tuple(found)
@@ -98,7 +98,7 @@ def never_turned(system):
     they can hold."""
     field = field_of(system)
     turned = {}
-    for state, row in zip(field.states, field.rows):
+    for state, row in zip(field.nodes, field.rows):
         for turn, _ in row:
             brought = _brought(field.plan, state, turn)
             if brought is not None:

@@ -13,7 +13,7 @@ class Net:
 
     rows: for each node the pairs (turn, node behind it); behind: those nodes alone;
     takers: for each node the pairs (bits of those who take part, node behind it);
-    ready: for each node the bits of the parts that are ready; masks, full: marks, as
+    able: for each node the bits of the parts that are ready; masks, full: marks, as
     in graphs.
     """
 
@@ -21,7 +21,7 @@ class Net:
         self.rows = rows
         self.behind = goals_of(rows)
         self.takers = [[(bits_of_turn(turn), goal) for turn, goal in row] for row in rows]
-        self.ready = ready
+        self.able = ready
         self.masks = masks
         self.full = full
 
@@ -82,7 +82,7 @@ def ready_all(net, nodes):
     """The bits of the parts that are ready at all of these nodes."""
     found = -1
     for node in nodes:
-        found &= net.ready[node]
+        found &= net.able[node]
     return found
 
 
@@ -95,7 +95,7 @@ def reason_against(net, component, bits):
     if lacking:
         return ("mark", least_bit(lacking))
     waiting = waiting_bits(
-        bits, taken_in(net, component), ready_all(net, component), mask_of(net.ready, component),
+        bits, taken_in(net, component), ready_all(net, component), mask_of(net.able, component),
     )
     if waiting:
         return ("part", least_bit(waiting))
@@ -116,7 +116,7 @@ def is_of_strong(reason, bits):
 
 def without_ready(net, nodes, part):
     """Those of the nodes at which a part is not ready."""
-    return [node for node in nodes if not net.ready[node] & (1 << part)]
+    return [node for node in nodes if not net.able[node] & (1 << part)]
 
 
 def fair_component(net, rows, bits):
@@ -170,7 +170,7 @@ def fair_round(net, component, start, bits):
             steps.extend(_steps_with(net, allowed, start, bit))
         elif bits[0] & bit:
             # Nobody is weakly fair to who is not ready at some node.
-            goals = {node: True for node in component if not net.ready[node] & bit}
+            goals = {node: True for node in component if not net.able[node] & bit}
             steps.extend(_steps_there_and_back(net, allowed, start, goals))
     return tuple(steps)
 

@@ -14,7 +14,7 @@ def are_falls(field, works, pairs, net, bits, thing):
     if not all([_is_front(row[2]) for row in numbers]) or not _are_reasons(field.plan, works, reasons):
         return False
     told = {row[:2]: row[2] for row in numbers}
-    rows = [told[(field.states[here], standing)] for here, standing in pairs.nodes]
+    rows = [told[(field.nodes[here], standing)] for here, standing in pairs.nodes]
     nodes_of = _nodes_of_fronts(rows)
     if sorted(nodes_of) != [front for front, _ in reasons]:
         return False
@@ -84,7 +84,7 @@ def _ends_well(net, given, bits, node, row):
         reason = given[front]
         ends = True
         if is_of_strong(reason, bits):
-            ends = net.ready[node] & (1 << reason[1]) != 0
+            ends = net.able[node] & (1 << reason[1]) != 0
         if ends != (len(front) == len(row)):
             return False
     return True

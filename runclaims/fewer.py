@@ -68,7 +68,7 @@ def alone_lap(system, heard, choice):
     component = alone_round(fewer, chosen)
     if component is None:
         return None
-    nodes = {at: True for at in range(len(fewer.states))}
+    nodes = {at: True for at in range(len(fewer.nodes))}
     way = way_to(fewer.behind, nodes, [0], {at: True for at in component})
     again = circle_in(fewer.behind, component, way[-1], [0 for _ in nodes], 0)
     return lap_of(fewer.rows, (way[:-1], again))
@@ -99,12 +99,12 @@ def fewer_turns(system, choice, state):
 def fewer_states(system, choice):
     """The ascending list of the STATES to which FEWER TURNS lead from the beginning."""
     field = field_of(system)
-    return sorted(fewer_field(field.plan, _fit_choice(field, choice)).states)
+    return sorted(fewer_field(field.plan, _fit_choice(field, choice)).nodes)
 
 
 def how_many(system, choice):
     """How many STATES are come to, and how many by FEWER TURNS."""
-    return len(field_of(system).states), len(fewer_states(system, choice))
+    return len(field_of(system).nodes), len(fewer_states(system, choice))
 
 
 def _sets(rows):

@@ -12,21 +12,21 @@ from runclaims.plans import Plan
 class Field:
     """The STATES to which ready TURNS lead from some, the nearest ahead.
 
-    states: they themselves; numbers: the number of each; rows: for each one the
+    nodes: they themselves; numbers: the number of each; rows: for each one the
     pairs (turn, number of the STATE behind it), by TURNS ascending; behind: for
     each one the numbers of those to which it leads.
     """
 
     def __init__(self, plan, states, rows):
         self.plan = plan
-        self.states = states
+        self.nodes = states
         self.numbers = {state: at for at, state in enumerate(states)}
         self.rows = rows
         self.behind = goals_of(rows)
 
     def told(self, heard):
         """For each STATE the set of the words that are told there."""
-        return [told_in(self.plan, heard, state) for state in self.states]
+        return [told_in(self.plan, heard, state) for state in self.nodes]
 
 
 class Pairs:

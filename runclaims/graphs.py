@@ -34,6 +34,15 @@ def goals_of(rows):
     return [sorted(set([goal for label, goal in row])) for row in rows]
 
 
+def turned_round(behind):
+    """For each node those that lead to it."""
+    found = [[] for _ in behind]
+    for node, row in enumerate(behind):
+        for goal in row:
+            found[goal].append(node)
+    return found
+
+
 def come_from(behind, starts):
     """The nodes to which ways lead from starts, themselves too, the nearest ahead."""
     met = {node: True for node in starts}

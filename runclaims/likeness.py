@@ -3,6 +3,7 @@
 A graph is told as in graphs; sets has what is told at each node.
 """
 
+from runclaims.graphs import turned_round
 from runclaims.plain import bits_set, numbered
 from runclaims.stepformulas import bits_leading, goal_masks
 
@@ -60,7 +61,7 @@ class Follow:
 
     def narrow(self, behind, unlike):
         """Take away, round by round, those who can't follow any more."""
-        masks, ahead = goal_masks(behind), _turned_round(behind)
+        masks, ahead = goal_masks(behind), turned_round(behind)
         number = 0
         while unlike:
             for one, other in unlike:
@@ -110,12 +111,3 @@ def lots_of(lots):
 def nodes_left(follow, one):
     """The nodes that follow one, ascending."""
     return bits_set(follow.left[one])
-
-
-def _turned_round(behind):
-    """For each node those that lead to it."""
-    found = [[] for _ in behind]
-    for node, row in enumerate(behind):
-        for goal in row:
-            found[goal].append(node)
-    return found

@@ -6,7 +6,7 @@ from runclaims.plain import is_number_from, is_row
 
 def told_pairs(field, pairs):
     """Each of the PAIRS as a STATE and a standing."""
-    return [(field.states[here], standing) for here, standing in pairs.nodes]
+    return [(field.nodes[here], standing) for here, standing in pairs.nodes]
 
 
 def is_pair_form(plan, works, thing):

@@ -163,7 +163,7 @@ def _node_of(field, state):
 def _lots_of_states(field, heard):
     """The ascending list of the lots of the STATES of a Field."""
     last = lots_by_depth(field.told(heard), field.behind)[-1]
-    return sorted([tuple(sorted([field.states[node] for node in row])) for row in lots_of(last)])
+    return sorted([tuple(sorted([field.nodes[node] for node in row])) for row in lots_of(last)])
 
 
 def _follow(sides):

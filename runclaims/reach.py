@@ -5,22 +5,24 @@ The idle TURN is none here.
 
 from runclaims.errors import NoCell, NoNumber, NoQueue, Unfit
 from runclaims.fields import field_from, field_of
-from runclaims.forms import are_turns_form, is_state_form
-from runclaims.graphs import come_from, components, depths_from, goals_of, goes_on
-from runclaims.laps import states_along
-from runclaims.moves import breaks_check, holds, pairs_in, ready_turns, state_after
-from runclaims.plain import as_set, frozen, is_ascending
+from runclaims.findings import (
+    is_hold_set, lost_in, nearest_row, row_states, still_in, where_so,
+)
+from runclaims.forms import is_state_form
+from runclaims.graphs import components, depths_from, goals_of, goes_on
+from runclaims.moves import breaks_check, holds, pairs_in, ready_turns
+from runclaims.plain import as_set, frozen
 from runclaims.plans import Plan, part_number
 
 
 def all_states(system):
     """The ascending list of the STATES come to."""
-    return sorted(field_of(system).states)
+    return sorted(field_of(system).nodes)
 
 
 def how_many_states(system):
     """How many STATES are come to."""
-    return len(field_of(system).states)
+    return len(field_of(system).nodes)
 
 
 def is_come_to(system, thing):
@@ -46,7 +48,7 @@ def layers(system):
     depths = depths_from(field.behind, [0])
     found = [[] for _ in range(max([depths[at] for at in depths]) + 1)]
     for at in depths:
-        found[depths[at]].append(field.states[at])
+        found[depths[at]].append(field.nodes[at])
     return [sorted(row) for row in found]
 
 
@@ -56,12 +58,12 @@ def shortest_row(system, state):
     wanted = frozen(state)
     if wanted not in field.numbers:
         return None
-    return _nearest(field, [field.numbers[wanted]])
+    return nearest_row(field, [field.numbers[wanted]])
 
 
 def is_row_to(system, state, thing):
     """Whether thing is a ROW that leads to it."""
-    states = _states_of_row(Plan(frozen(system)), thing)
+    states = row_states(Plan(frozen(system)), thing)
     return states is not None and states[-1] == frozen(state)
 
 
@@ -87,19 +89,19 @@ def how_many_rows(system, state, number):
 def stuck_states(system):
     """The ascending list of the stuck STATES come to."""
     field = field_of(system)
-    return sorted([field.states[at] for at in _still(field, False)])
+    return sorted([field.nodes[at] for at in still_in(field, False)])
 
 
 def ended_states(system):
     """The ascending list of the ended STATES come to."""
     field = field_of(system)
-    return sorted([field.states[at] for at in _still(field, True)])
+    return sorted([field.nodes[at] for at in still_in(field, True)])
 
 
 def stuck_row(system):
     """The nearest ROW to stuck STATES; None if none is come to."""
     field = field_of(system)
-    return _nearest(field, _still(field, False))
+    return nearest_row(field, still_in(field, False))
 
 
 def who_waits(system, state):
@@ -135,7 +137,7 @@ def broken_checks(system):
     field = field_of(system)
     names = field.plan.part_rows
     return as_set([
-        (names[turn[0]], turn[1]) for state, row in zip(field.states, field.rows)
+        (names[turn[0]], turn[1]) for state, row in zip(field.nodes, field.rows)
         for turn, _ in row if breaks_check(field.plan, state, turn)
     ])
 
@@ -145,10 +147,10 @@ def broken_row(system, part, step):
     field = field_of(system)
     turn = _check_turn(field.plan, part, step)
     ahead = [
-        at for at, state in enumerate(field.states)
+        at for at, state in enumerate(field.nodes)
         if turn in ready_turns(field.plan, state) and breaks_check(field.plan, state, turn)
     ]
-    row = _nearest(field, ahead)
+    row = nearest_row(field, ahead)
     return None if row is None else (*row, turn)
 
 
@@ -156,7 +158,7 @@ def is_broken_row(system, part, step, thing):
     """Whether thing is a ROW whose last TURN breaks this check."""
     plan = Plan(frozen(system))
     turn = _check_turn(plan, part, step)
-    states = _states_of_row(plan, thing)
+    states = row_states(plan, thing)
     if states is None or len(thing) == 0 or thing[-1] != turn:
         return False
     return breaks_check(plan, states[-2], turn)
@@ -183,7 +185,7 @@ def never_stood(system):
     plan = field.plan
     found = []
     for part, name in enumerate(plan.part_rows):
-        stood = {state[0][part]: True for state in field.states}
+        stood = {state[0][part]: True for state in field.nodes}
         end = plan.charts[part].end
         found.extend([(name, place) for place in range(end + 1) if place not in stood])
     return tuple(found)
@@ -195,7 +197,7 @@ def never_both(system, part, other):
     one, another = part_number(field.plan, part), part_number(field.plan, other)
     if one == another:
         raise Unfit()
-    met = {(state[0][one], state[0][another]): True for state in field.states}
+    met = {(state[0][one], state[0][another]): True for state in field.nodes}
     firsts = as_set([place for place, _ in met])
     seconds = as_set([place for _, place in met])
     return tuple([(here, there) for here in firsts for there in seconds if (here, there) not in met])
@@ -207,7 +209,7 @@ def held_ever(system, cell):
     if cell not in field.plan.cell_at:
         raise NoCell(cell)
     at = field.plan.cell_at[cell]
-    return as_set([state[1][at] for state in field.states])
+    return as_set([state[1][at] for state in field.nodes])
 
 
 def most_in(system, queue):
@@ -216,20 +218,20 @@ def most_in(system, queue):
     if queue not in field.plan.queue_at:
         raise NoQueue(queue)
     at = field.plan.queue_at[queue]
-    return max([len(state[2][at]) for state in field.states])
+    return max([len(state[2][at]) for state in field.nodes])
 
 
 def always_so(system, test):
     """Whether the TEST is so at all STATES come to."""
     field = field_of(system)
-    return len(_where_so(field, test)) == len(field.states)
+    return len(where_so(field, test)) == len(field.nodes)
 
 
 def row_against(system, test):
     """The nearest ROW to STATES where it is not; None if there are none."""
     field = field_of(system)
-    so = {at: True for at in _where_so(field, test)}
-    return _nearest(field, [at for at in range(len(field.states)) if at not in so])
+    so = {at: True for at in where_so(field, test)}
+    return nearest_row(field, [at for at in range(len(field.nodes)) if at not in so])
 
 
 def fence(system, test):
@@ -242,18 +244,7 @@ def fence(system, test):
 def is_fence(system, test, thing):
     """Whether thing is a FENCE for the TEST."""
     plan, wanted = Plan(frozen(system)), frozen(test)
-    if type(thing) is not tuple or not all([is_state_form(plan, state) for state in thing]):
-        return False
-    within = {state: True for state in thing}
-    if not is_ascending(thing) or plan.first not in within:
-        return False
-    for state in thing:
-        if not holds(plan, state, wanted):
-            return False
-        for turn in ready_turns(plan, state):
-            if state_after(plan, state, turn) not in within:
-                return False
-    return True
+    return is_hold_set(plan, thing) and all([holds(plan, state, wanted) for state in thing])
 
 
 def can_still(system, test):
@@ -264,20 +255,20 @@ def can_still(system, test):
 def lost_states(system, test):
     """The ascending list of the STATES come to that are lost for the TEST."""
     field = field_of(system)
-    return sorted([field.states[at] for at in _lost(field, test)])
+    return sorted([field.nodes[at] for at in lost_in(field, test)])
 
 
 def lost_row(system, test):
     """The nearest ROW to these; None if there are none."""
     field = field_of(system)
-    return _nearest(field, _lost(field, test))
+    return nearest_row(field, lost_in(field, test))
 
 
 def soonest(system, state, test):
     """With how few TURNS from this STATE on the TEST can be so; None if it is lost."""
     field = field_from(Plan(frozen(system)), [frozen(state)])
     depths = depths_from(field.behind, [0])
-    return min([depths[at] for at in _where_so(field, test)], default=None)
+    return min([depths[at] for at in where_so(field, test)], default=None)
 
 
 def _moves(field):
@@ -293,53 +284,3 @@ def _check_turn(plan, part, step):
     if plan.deed(number, step)[0] != "check":
         raise Unfit()
     return (number, step)
-
-
-def _nearest(field, wanted):
-    """The nearest ROW to some of the STATES of a Field; None if there are none."""
-    if len(wanted) == 0:
-        return None
-    # STATES are numbered in the order of the nearest ROWS to them: TURNS are tried ascending.
-    at = min(wanted)
-    came = {}
-    for here, row in enumerate(field.rows):
-        for turn, goal in row:
-            if goal > here and goal not in came:
-                came[goal] = (here, turn)
-    turns = []
-    while at != 0:
-        at, turn = came[at]
-        turns.append(turn)
-    return tuple(turns[::-1])
-
-
-def _states_of_row(plan, thing):
-    """The STATES from the beginning on along a ROW; None if thing is none."""
-    if not are_turns_form(thing) or () in thing:
-        return None
-    return states_along(plan, plan.first, thing)
-
-
-def _still(field, ended):
-    """The numbers of the still STATES at which all parts have ended, or not all, as told."""
-    ends = tuple([chart.end for chart in field.plan.charts])
-    return [
-        at for at, state in enumerate(field.states)
-        if [turn for turn, _ in field.rows[at]] == [()] and (state[0] == ends) == ended
-    ]
-
-
-def _where_so(field, test):
-    """The numbers of the STATES at which a TEST is so."""
-    wanted = frozen(test)
-    return [at for at, state in enumerate(field.states) if holds(field.plan, state, wanted)]
-
-
-def _lost(field, test):
-    """The numbers of the STATES that are lost for a TEST."""
-    ahead = [[] for _ in field.states]
-    for at, row in enumerate(field.behind):
-        for goal in row:
-            ahead[goal].append(at)
-    kept = {at: True for at in come_from(ahead, _where_so(field, test))}
-    return [at for at in range(len(ahead)) if at not in kept]

@@ -17,7 +17,7 @@ class Sides:
     def __init__(self, one, ones, other, others):
         self.one = one
         self.other = other
-        self.many = len(one.states)
+        self.many = len(one.nodes)
         self.sets = one.told(ones) + other.told(others)
         moved = [[goal + self.many for goal in row] for row in other.behind]
         self.behind = one.behind + moved
@@ -25,10 +25,10 @@ class Sides:
     def state_pairs(self, rows):
         """The ascending tuple of the pairs of STATES; rows has for each node of the first
         Field nodes of the other one."""
-        order = sorted(self.other.states)
+        order = sorted(self.other.nodes)
         ranks = {self.other.numbers[state] + self.many: at for at, state in enumerate(order)}
         found = []
-        for state in sorted(self.one.states):
+        for state in sorted(self.one.nodes):
             later = sorted([ranks[node] for node in rows[self.one.numbers[state]]])
             found.extend([(state, order[at]) for at in later])
         return tuple(found)

@@ -79,12 +79,12 @@ def keeping_states(system, heard, formula):
     """The ascending list of the STATES come to from which on it is kept."""
     words, wanted = heard_formula(heard, formula)
     field = field_of(system)
-    begun = list(range(len(field.states)))
+    begun = list(range(len(field.nodes)))
     pairs = pairs_from(field, works_against(wanted), field.told(words), begun)
     live = live_nodes(pairs.behind, pairs.starts, pairs.masks, pairs.full)
     begin = {node: True for node in pairs.starts}
     lost = {pairs.nodes[node][0]: True for node in live if node in begin}
-    return sorted([field.states[at] for at in begun if at not in lost])
+    return sorted([field.nodes[at] for at in begun if at not in lost])
 
 
 def hangs_on(system, heard, formula):

@@ -49,6 +49,10 @@ BOTH = (FREE, ON, CLOCK, ON)
 PAIRING, FOLLOWING = ((BEGUN, BEGUN), (LIT, LIT)), (((((0,), (0,), (), -1)), BEGUN),)
 EDIT = ("insert", "a", (2, 0, 1), ("pass",))
 ALIKE = edited(FREE, ("insert", "a", (0,), ("pass",)))
+LIVES, BACK = ("keeps", ON, SEEN, ("strong", "none")), ("back", ("less", ("cell", "n"), ONE))
+FAIR_LAP = ((), ((0, 0), (1, 0)))
+FALLS, NUMBERS = ("keeps", ON, SEEN, ("weak", "weak")), ((TWO_BEGUN, 0), (TWO_LIT, 1))
+TOLD = "keeps strong,none ever p; p is n == 1: falls\n  round\n  a 0\nkeeps weak,weak ever p; p is n == 1: falls\n  round\n  a 0\n  b 0"
 CALLS = {
     "is_system": [(SAMPLE,), (listed(SAMPLE),)], "is_value": [(SAMPLE, X), (SAMPLE, list(X))],
     "is_test": [(SAMPLE, TEST), (SAMPLE, list(TEST))], "is_heard": [(SAMPLE, HEARD), (SAMPLE, list(HEARD))],
@@ -130,6 +134,17 @@ CALLS = {
     "can_edit": [(SAMPLE, EDIT), (SAMPLE, list(EDIT))], "squeezed_alike": [(FREE, ALIKE, ON)],
     "squeezed_apart": [(FREE, ALIKE, ON), (FREE, CLOCK, ON)],
     "is_squeezed_apart": [(FREE, CLOCK, ON, (((), ("p",)), False)), (FREE, CLOCK, ON, [((), ("p",)), False])],
+    "changed": [(SAMPLE, ((0, 0), (1, 1)), 1, (0, 1))], "shortest_round": [(FREE, ((0, 0), (0, 1)))],
+    "replayed": [(FREE, ON, ROW)], "is_replayed": [(FREE, ON, ROW, ((0, 1), (0, 0))), (FREE, ON, ROW, [(0, 1), (0, 0)])],
+    "is_claim": [(TWO, LIVES), (TWO, list(LIVES))], "is_hold": [(TWO, FENCE), (TWO, list(FENCE))],
+    "stands": [(TWO, LIVES), (TWO, FALLS)], "paper_for": [(TWO, LIVES), (TWO, FALLS), (TWO, BACK)],
+    "paper_against": [(TWO, LIVES), (TWO, FALLS), (TWO, BACK), (QUIET, BACK)],
+    "is_paper_for": [(TWO, BACK, NUMBERS), (TWO, BACK, list(NUMBERS))],
+    "is_paper_against": [(TWO, FALLS, FAIR_LAP), (TWO, FALLS, list(FAIR_LAP))], "claim_text": [(LIVES,), (BACK,)],
+    "claim_from": [("keeps none,weak ever p; p is n == 1",)], "report": [(TWO, (LIVES, BACK, FALLS)), (TWO, ())],
+    "told_verdicts": [(TWO, TOLD)], "is_report": [(TWO, (LIVES, FALLS), TOLD), (TWO, (), "")],
+    "edit_text": [(EDIT,)], "edit_from": [("insert a 2.0.1 pass",)], "turn_text": [(SAMPLE, (0, 3, 1, 0))],
+    "turn_from": [(SAMPLE, "a 3 to b 0")], "is_request": [("edit x drop y",)], "replies": [("names\nput a part b { }",)],
     "is_come_to": [(SAMPLE, START), (SAMPLE, list(START))], "is_row_to": [(TWO, TWO_LIT, LIT_ROW), (TWO, TWO_LIT, list(LIT_ROW))],
     "how_many_rows": [(TWO, TWO_BEGUN, 3)], "who_waits": [(OTHER, ((0, 1), (2,), ((), ()), -1))],
     "broken_row": [(CHECKED, "a", 1)], "is_broken_row": [(CHECKED, "a", 1, ((0, 0), (0, 1))), (CHECKED, "a", 1, [(0, 0), (0, 1)])],
@@ -148,6 +163,7 @@ BY_ARGUMENTS = {
 LISTS = (
     "states", "true_loops", "come_pairs", "led_from", "keeping_states", "least_kinds", "fewer_states", "all_states", "layers",
     "stuck_states", "ended_states", "lost_states", "rows_told", "lots", "paths_of",
+    "replies",
 )
 
 

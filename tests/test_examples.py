@@ -9,6 +9,7 @@ FOLDER = pathlib.Path(__file__).resolve().parent
 MODULES = (
     "errors", "systems", "language", "texts", "tables", "states", "loops", "formulas", "grounds",
     "machines", "makers", "ranks", "verdicts", "fair", "fewer", "fewerlaps", "sames", "pairings", "reach", "edits",
+    "watch", "claims", "board", "report", "desk",
 )
 
 
@@ -51,7 +52,8 @@ class Examples(unittest.TestCase):
     def test_examples(self):
         many = {
             "point4": 4, "point5": 9, "point6": 3, "point7": 6, "point8": 7, "point9": 7, "point10": 5,
-            "point11": 4, "point12": 6, "point13": 4, "point14": 8, "point15": 4,
+            "point11": 4, "point12": 6, "point13": 4, "point14": 8, "point15": 6,
+            "point16": 5, "point17": 5,
         }
         for path in sorted((FOLDER / "examples").iterdir()):
             with self.subTest(path.name):

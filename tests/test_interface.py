@@ -155,6 +155,38 @@ INTERFACE = {
         fence(system, test), is_fence(system, test, thing), can_still(system, test),
         lost_states(system, test), lost_row(system, test), soonest(system, state, test)
     """,
+    "watch": """
+        changed(system, turns, number, turn), shortest_round(system, turns), replayed(system,
+        heard, row), is_replayed(system, heard, row, thing)
+    """,
+    "claims": """
+        is_claim(system, thing), is_hold(system, thing), stands(system, claim),
+        paper_for(system, claim), paper_against(system, claim), is_paper_for(system, claim,
+        thing), is_paper_against(system, claim, thing)
+    """,
+    "board": "",
+    "report": """
+        claim_text(claim), claim_from(text), report(system, claims), told_verdicts(system,
+        text), is_report(system, claims, thing)
+    """,
+    "desk": """
+        edit_text(edit), edit_from(text), turn_text(system, turn), turn_from(system, text),
+        is_request(thing), replies(text)
+    """,
+}
+# For each class its arguments, its properties and its methods.
+CLASSES = {
+    "watch.Watch": (("system",), ("system", "taken", "here", "ahead"), """
+        take(turn), go(turns), back(), again(), to(number), twin(), ready(), states(),
+        told(heard), met(), lap(), standing(part), __len__(), __eq__(other)
+    """),
+    "board.Board": ((), ("names", "deeds"), """
+        put(name, system), drop(name), rename(name, new), edit(name, edit), turn(name, turn),
+        keep(name, claim), free(name, claim), undo(), twin(), turns(name), state(name),
+        claims(name), standing(name), lost(name), sure(name), spoilt_by(name, edit),
+        mended_by(name, edit), __len__(), __contains__(name), __getitem__(name), __eq__(other),
+        __iter__()
+    """),
 }
 # Beside what the interface lists, these files hold what others of the package need.
 SHARED = {"loops": ["place_of_run", "squeezed_sets"], "machines": ["loop_of"], "ranks": ["least_ranks", "are_ranks"]}
@@ -180,6 +212,28 @@ class Interface(unittest.TestCase):
                     for parameter in told.values():
                         self.assertIs(parameter.default, parameter.empty)
                         self.assertEqual(parameter.kind, parameter.POSITIONAL_OR_KEYWORD)
+
+    def test_each_class_stands_in_its_file_with_all_that_it_has(self):
+        for place, (given, properties, methods) in CLASSES.items():
+            module, name = place.split(".")
+            home = importlib.import_module(f"runclaims.{module}")
+            tree = ast.parse((FOLDER / f"{module}.py").read_text())
+            own = [node for node in tree.body if isinstance(node, ast.ClassDef)]
+            self.assertEqual([node.name for node in own], [name])
+            made = [node.name for node in own[0].body if isinstance(node, ast.FunctionDef)]
+            thing = getattr(home, name)
+            self.assertEqual(tuple(inspect.signature(thing).parameters), given)
+            for one in properties:
+                self.assertIn(one, made)
+                self.assertIsInstance(vars(thing)[one], property)
+                self.assertIsNone(vars(thing)[one].fset)
+            for one, arguments in calls_of(methods):
+                with self.subTest(f"{name}.{one}"):
+                    self.assertIn(one, made)
+                    told = inspect.signature(vars(thing)[one]).parameters
+                    self.assertEqual(tuple(told)[1:], arguments)
+            listed = list(properties) + [one for one, _ in calls_of(methods)] + ["__init__"]
+            self.assertEqual([one for one in made if one not in listed and not one.startswith("_")], [])
 
     def test_other_functions_of_these_files_are_not_open(self):
         for module in INTERFACE:

@@ -9,7 +9,7 @@ import unittest
 FOLDER = pathlib.Path(__file__).resolve().parent.parent / "runclaims"
 BUILTINS = set(
     "len range enumerate zip min max sum abs sorted reversed int str bool list tuple dict set"
-    " isinstance ord repr any all divmod type ValueError".split()
+    " isinstance ord repr any all divmod type property TypeError ValueError".split()
 )
 METHODS = set(
     "append clear copy count endswith extend find get index insert isalnum isalpha isdigit"
@@ -106,7 +106,7 @@ class Rules(unittest.TestCase):
             for node in ast.walk(tree):
                 self.assertIsInstance(node, NODES, ast.dump(node))
                 if isinstance(node, ast.FunctionDef):
-                    self.assertEqual(node.decorator_list, [])
+                    self.assertIn([row.id for row in node.decorator_list], ([], ["property"]))
                     self.assertIsNone(node.returns)
                 if isinstance(node, ast.arg):
                     self.assertIsNone(node.annotation)
@@ -241,7 +241,40 @@ class Rules(unittest.TestCase):
                     attributes.add(node.attr)
         self.assertEqual(methods & attributes, set())
         self.assertEqual(attributes & set(dir(list) + dir(dict) + dir(str) + dir(set) + dir(int)), set())
-        self.assertEqual(methods & set(dir(list) + dir(dict) + dir(str) + dir(set) + dir(int)), {"__init__"})
+        doubled = {"__init__", "__len__", "__eq__", "__contains__", "__getitem__", "__iter__"}
+        self.assertEqual(methods & set(dir(list) + dir(dict) + dir(str) + dir(set) + dir(int)), doubled)
+
+    def test_properties_and_methods_of_operators_change_nothing(self):
+        plain = ("isinstance", "len", "tuple", "sorted", "list", "NoSystem", "TypeError")
+        names = set()
+        for path, tree in self.each():
+            for node in [one for one in ast.walk(tree) if isinstance(one, ast.ClassDef)]:
+                for function in functions_in(node):
+                    decorated = [row.id for row in function.decorator_list] == ["property"]
+                    if decorated or function.name.startswith("__") and function.name != "__init__":
+                        calls = [call.func for call in ast.walk(function) if isinstance(call, ast.Call)]
+                        for call in calls:
+                            self.assertIn(getattr(call, "id", None), plain, f"{path.name}:{function.name}")
+                        stores = [one for one in ast.walk(function) if isinstance(getattr(one, "ctx", None), ast.Store)]
+                        self.assertEqual(stores, [])
+                    if decorated:
+                        names.add(function.name)
+        methods = {
+            function.name for _, tree in self.each() for node in ast.walk(tree) if isinstance(node, ast.ClassDef)
+            for function in functions_in(node) if not function.decorator_list
+        }
+        self.assertEqual(names, {"system", "taken", "here", "ahead", "names", "deeds"})
+        self.assertEqual(names & methods, set())
+
+    def test_tries_catch_own_errors_alone(self):
+        own = {node.name for node in parsed(FOLDER / "errors.py").body if isinstance(node, ast.ClassDef)}
+        for path, tree in self.each():
+            for node in ast.walk(tree):
+                if isinstance(node, ast.ExceptHandler):
+                    self.assertIn(node.type.id, own, path.name)
+                    self.assertIsNone(node.name)
+                if isinstance(node, ast.Try):
+                    self.assertEqual((node.finalbody, node.orelse), ([], []))
 
     def test_nothing_that_a_loop_goes_over_is_modified_in_it(self):
         changing = ("append", "extend", "insert", "pop", "remove", "clear", "update", "setdefault", "reverse")

@@ -1,0 +1,76 @@
+"""Requests: what they are by their shape."""
+
+from runclaims.claimtexts import read_claim
+from runclaims.edittexts import cut, read_edit
+from runclaims.errors import BadText, Unfit
+from runclaims.language import system_from
+from runclaims.plain import is_name
+from runclaims.turntexts import is_word, read_turn
+
+# What stands behind the word of each request.
+KINDS = {
+    "put": ("name", "system"), "drop": ("name",), "rename": ("name", "name"),
+    "edit": ("name", "edit"), "turn": ("name", "turn"), "keep": ("name", "claim"),
+    "free": ("name", "claim"), "undo": (), "system": ("name",), "names": (), "deeds": (),
+    "run": ("name",), "ready": ("name",), "cell": ("name", "word"), "lying": ("name", "word"),
+    "holder": ("name",), "ended": ("name",), "claims": ("name",), "standing": ("name",),
+    "lost": ("name",), "sure": ("name",), "spoilt": ("name", "edit"),
+    "mended": ("name", "edit"), "report": ("name",),
+}
+
+
+def request_rows(lines):
+    """Pairs (number, request): the requests of lines, each with the number of its first line."""
+    found = []
+    for number, line in enumerate(lines):
+        if found and line[:1] == " ":
+            begun, text = found[-1]
+            found[-1] = (begun, text + "\n" + line)
+        else:
+            found.append((number, line))
+    return found
+
+
+def read_request(text):
+    """The tuple of the word of a request and the texts behind it; None if it is none."""
+    word, rest = cut(text)
+    if word not in KINDS:
+        return None
+    found = [word]
+    for kind in KINDS[word]:
+        own, rest = _cut_off(kind, rest)
+        if own is None:
+            return None
+        found.append(own)
+    return tuple(found) if rest == "" else None
+
+
+def _cut_off(kind, text):
+    """The text of this kind behind a blank, and the rest; None for what is none."""
+    if kind == "system":
+        return (text if text != "" and _is_system_text(text) else None), ""
+    if text[:1] != " ":
+        return None, text
+    if kind in ("name", "word"):
+        word, rest = cut(text[1:])
+        fits = is_name(word) if kind == "name" else is_word(word)
+        return (word if fits else None), rest
+    own = text[1:]
+    if kind == "edit":
+        told = read_edit(own)
+    elif kind == "turn":
+        told = read_turn(own)
+    else:
+        told = read_claim(own)
+    return (None if told is None else own), ""
+
+
+def _is_system_text(text):
+    """Whether a SYSTEM is so written, be it one or not."""
+    try:
+        system_from(text)
+    except BadText:
+        return False
+    except Unfit:
+        return True
+    return True
