@@ -51,16 +51,17 @@ def is_request(thing):
     """Whether thing is a string that is a request, by its shape alone."""
     if type(thing) is not str:
         return False
-    return len(request_rows(thing.split("\n"))) == 1 and read_request(thing) is not None
+    rows = request_rows(thing)
+    return len(rows) == 1 and read_request(rows[0][1]) is not None
 
 
 def replies(text):
     """The list of the replies to the requests of a text."""
     if text == "":
         return []
-    rows = request_rows(text.split("\n"))
+    rows = request_rows(text)
     for number, request in rows:
-        if not is_request(request):
+        if read_request(request) is None:
             raise BadLine(number)
     board, found = Board(), []
     for _, request in rows:

@@ -42,10 +42,9 @@ def read_edit(text):
 
 
 def cut(text):
-    """A text up to the first blank or end of a line, and the rest from there on."""
-    ends = [at for at in (text.find(" "), text.find("\n")) if at >= 0]
-    at = min(ends, default=len(text))
-    return text[:at], text[at:]
+    """A text up to the first blank, and the rest from there on."""
+    word = text.partition(" ")[0]
+    return word, text[len(word):]
 
 
 def _read_part(kind, text):
@@ -71,9 +70,7 @@ def _read_path(word):
 
 
 def _read_deed(text):
-    """The DEED that is so written behind a blank or an end of a line; None if none is."""
-    if text == "":
-        return None
+    """The DEED that is so written behind a blank; None if none is."""
     block = _read_deeds(text)
     return block[0] if block is not None and len(block) == 1 else None
 

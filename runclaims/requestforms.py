@@ -19,13 +19,14 @@ KINDS = {
 }
 
 
-def request_rows(lines):
-    """Pairs (number, request): the requests of lines, each with the number of its first line."""
+def request_rows(text):
+    """Pairs (number, request): the requests of a text, each joined from its lines, with the
+    number of the first one."""
     found = []
-    for number, line in enumerate(lines):
+    for number, line in enumerate(text.split("\n")):
         if found and line[:1] == " ":
-            begun, text = found[-1]
-            found[-1] = (begun, text + "\n" + line)
+            begun, request = found[-1]
+            found[-1] = (begun, request + line)
         else:
             found.append((number, line))
     return found
@@ -38,31 +39,33 @@ def read_request(text):
         return None
     found = [word]
     for kind in KINDS[word]:
-        own, rest = _cut_off(kind, rest)
+        own, rest = _read_behind(kind, rest)
         if own is None:
             return None
         found.append(own)
     return tuple(found) if rest == "" else None
 
 
-def _cut_off(kind, text):
-    """The text of this kind behind a blank, and the rest; None for what is none."""
-    if kind == "system":
-        return (text if text != "" and _is_system_text(text) else None), ""
+def _read_behind(kind, text):
+    """The text of this kind behind just one blank, and the rest; None for what is none."""
     if text[:1] != " ":
         return None, text
     if kind in ("name", "word"):
         word, rest = cut(text[1:])
         fits = is_name(word) if kind == "name" else is_word(word)
         return (word if fits else None), rest
-    own = text[1:]
+    return (text[1:] if _is_written(kind, text[1:]) else None), ""
+
+
+def _is_written(kind, text):
+    """Whether an EDIT, a TURN, a CLAIM or a SYSTEM is so written."""
     if kind == "edit":
-        told = read_edit(own)
-    elif kind == "turn":
-        told = read_turn(own)
-    else:
-        told = read_claim(own)
-    return (None if told is None else own), ""
+        return read_edit(text) is not None
+    if kind == "turn":
+        return read_turn(text) is not None
+    if kind == "claim":
+        return read_claim(text) is not None
+    return _is_system_text(text)
 
 
 def _is_system_text(text):

@@ -274,6 +274,47 @@ class Maker:
             if 2 <= len(Goings(system).all_states(most + 1)) <= most:
                 return system
 
+    def busy_deed(self, depth, in_once, cell):
+        """A DEED of a part with this cell that often hands over, holds or chooses."""
+        kind = self.pick("pass", "pass", "let", "put", "get", "when", "h put", "h get", "h put", "h get", "once", "pick", "again")
+        if kind == "let":
+            return (kind, cell, ("number", self.pick(0, 1)))
+        if kind in ("put", "h put"):
+            return ("put", "q" if kind == "put" else "h", ONE)
+        if kind in ("get", "h get"):
+            return ("get", "q" if kind == "get" else "h", cell)
+        if kind == "when":
+            return (kind, ("same", ("cell", self.pick("x", "y", cell)), ("number", self.pick(0, 1))))
+        if kind == "once" and depth and not in_once:
+            return (kind, self.busy_block(3, depth - 1, True, cell, True))
+        if kind in ("pick", "again") and depth:
+            blocks = [self.busy_block(2, depth - 1, in_once, cell, True) for _ in range(self.pick(1, 2, 2))]
+            if len(blocks) > 1 and self.random.random() < 0.5:
+                blocks[-1] = (("else",),) + blocks[-1][1:]
+            return (kind, tuple(blocks))
+        return ("pass",)
+
+    def busy_block(self, many, depth, in_once, cell, inner):
+        found = []
+        for _ in range(self.random.randint(1, many)):
+            deed = self.busy_deed(depth, in_once, cell)
+            if inner and not found and deed[0] in ("pick", "again"):
+                deed = ("pass",)
+            found.append(deed)
+        return tuple(found)
+
+    def busy(self, most):
+        """A SYSTEM with at most so many STATES in which parts often hand over, hold, choose."""
+        cells = (("x", 1, 0), ("y", 1, 0), ("z", 1, 0))
+        while True:
+            parts = [(name, self.busy_block(4, 2, False, cell, False)) for name, cell in zip("abc"[:self.pick(2, 2, 3)], "xyz")]
+            if self.random.random() < 0.3:
+                check = ("check", ("same", ("cell", self.pick("x", "y", "z")), ("number", self.pick(0, 1))))
+                parts = [(name, block + (check,)) for name, block in parts]
+            system = (cells, (("h", 0, 1), ("q", 1, 1)), tuple(parts))
+            if is_system(system) and 2 < len(Goings(system).all_states(most + 1)) <= most:
+                return system
+
     def small(self, most=60, least=4, **sizes):
         """A SYSTEM with so many STATES."""
         while True:

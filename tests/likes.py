@@ -204,7 +204,7 @@ def pairs_of_systems(seed, many, most, words="pq"):
     """Tuples of a maker and two systems with HEARD words, often much alike."""
     maker = Maker(seed)
     for number in range(many):
-        one = maker.small(most, 2, parts=maker.random.randint(1, 2))
+        one = maker.busy(most) if number % 3 == 0 else maker.small(most, 2, parts=maker.random.randint(1, 2))
         ones = maker.heard(one, words)
         if number % 4:
             other, others = near_system(maker, one, most), ones

@@ -163,4 +163,7 @@ def small_systems(seed, many, most=9):
     maker = Maker(seed)
     for number in range(many):
         parts = maker.pick(1, 2, 2, 3)
-        yield maker, maker.looping(most, min(parts, 2)) if number % 3 == 0 else maker.small(most, 2, parts=parts)
+        if number % 3 == 0:
+            yield maker, maker.looping(most, min(parts, 2))
+        else:
+            yield maker, maker.busy(most) if number % 3 == 1 else maker.small(most, 2, parts=parts)

@@ -88,15 +88,16 @@ class Requests(Case):
             "rename x y", "rename x x", "edit nobody drop z", "turn x idle", "turn x a 0", "turn x a 1 to b 0", "turn x zoo 99", "keep x moves", "keep x always zz == 3", "keep x keeps none p; p is 1 < 2", "keep x can\n c == 2",
             "free x checked", "undo", "system x", "names", "deeds", "run x", "ready x", "cell x c", "cell x queue", "cell x abcdefghijk", "lying x q", "holder x", "ended x", "claims x", "standing x", "lost x", "sure x",
             "spoilt x remove a 0", "mended x top c 9999", "report x", "put x part a { z = 1 }", "put x cell c 1 = 9 part a { go l }", "edit x part b {\n pass\n }", "rename idle let", "keep x always  c==0 ",
+            "drop\n x", "turn x a\n 0", "free x\n moves", "edit\n x\n insert\n a\n 0\n pass", "put\n x\n  part a { }\n ",
         ):
             self.assertIs(is_request(text), True, text)
             self.assertIs(is_request(thing=text), True)
 
     def test_what_is_none(self):
         for thing in JUNK + (
-            " ", "\n", " names", "names ", "names\n", "names\nnames", "names\n ", "Names", "names x", "drop", "drop ", "drop  x", "drop x ", "drop x y", "drop\n x", "drop x\n ", "drop X", "drop abcdefghi", "drop let ", "drop go", "rename x", "rename x  y",
+            " ", "\n", " names", "names ", "names\n", "names\nnames", "names\n ", "Names", "names x", "drop", "drop ", "drop  x", "drop x ", "drop x y", "drop x\n ", "drop X", "drop abcdefghi", "drop let ", "drop go", "drop\n  x", "drop\nx", "rename x", "rename x  y",
             "rename x go", "rename x y z", "put", "put x", "put x ", "put go part a { }", "put x part a {", "put x cell c 10 = 0 part a { }", "put x queue q 4 1 part a { }", "put X part a { }", "put  x part a { }", "put x pass", "turn x", "turn x a",
-            "turn x a 00", "turn x  a 0", "turn x a  0", "turn x a 0 ", "turn x a\n 0", "turn x a 0 to b", "keep x", "keep x  moves", "keep x moves ", "keep x always", "keep x never c == 0", "keep x keeps p", "free x\n moves", "undo x", "undo ", "cell x",
+            "turn x a 00", "turn x  a 0", "turn x a  0", "turn x a 0 ", "turn x a\n  0", "turn x a 0 to b", "keep x", "keep x  moves", "keep x moves ", "keep x always", "keep x never c == 0", "keep x keeps p", "free x \n moves", "undo x", "undo ", "cell x",
             "cell x c d", "cell x C", "cell x 0", "lying x", "run", "run x y", "report", "report x ", "spoilt x", "mended x drop", "edit x", "edit x drop", "deed", "list", "put x part a { }\nnames", "put x\npart a { }", "names\r", "\tnames", "system x\n\n",
             b"names", ["names"], ("names",), None,
         ):
@@ -106,10 +107,15 @@ class Requests(Case):
         self.assertEqual(replies(""), [])
         self.assertEqual(replies(text="names"), ["-"])
         for number, text in (
-            (0, " "), (0, "\n"), (0, " names"), (0, "\nnames"), (1, "names\n"), (1, "names\n\nnames"), (2, "names\nnames\nname"), (0, "name\nnames\n"), (0, "names\n names"), (1, "names\ndrop\n x"), (0, "drop x \nnames"),
+            (0, " "), (0, "\n"), (0, " names"), (0, "\nnames"), (1, "names\n"), (1, "names\n\nnames"), (2, "names\nnames\nname"), (0, "name\nnames\n"), (0, "names\n names"), (1, "names\ndrop \n x"), (0, "drop x \nnames"),
             (3, "put x part a { }\n \n \n"), (2, "put x cell c 2 = 0\n part a { }\nturn x a  0"), (0, "put x cell c 2 = 0\npart a { }"), (1, "put x part a { z = 1 }\nput x part a {"), (1, "drop nobody\nDROP x\nx"),
         ):
             self.assert_raises(BadLine, {"number": number}, replies, text)
+
+    def test_at_each_blank_a_line_may_end(self):
+        text = MANY + "\nkeep s keeps none,weak ever p; p is x == 2\nspoilt s insert a 0 x = 3\nturn s a 1\nundo\nstanding s\nrename s t\nnames\ncell t x"
+        self.assertEqual(replies(text.replace(" ", "\n ")), replies(text))
+        self.assertTrue(all([is_request(line.replace(" ", "\n ")) for line in text.split("\n")]))
 
     def test_over_several_lines(self):
         text = "put x\n cell c 2 = 0\n queue q 1 2\n part a {\n  put q c + 1 ;\n  c = 2\n }\nsystem x\nkeep x can\n c ==\n 2\nclaims x\nedit x insert a 0\n pass\nsystem x"

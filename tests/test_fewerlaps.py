@@ -49,7 +49,10 @@ def still(maker, words="pq"):
 
 def good_choices(seed, many, most):
     """Tuples of a maker, a system, HEARD words, what Fewer tells, a good CHOICE."""
-    for maker, system, heard in samples(seed, many, most, "pq"):
+    for number, (maker, system, heard) in enumerate(samples(seed, many, most, "pq")):
+        if number % 2:
+            system = maker.busy(most)
+            heard = maker.heard(system, "pq")
         fewer = Fewer(system, heard)
         other = some_choice(maker, fewer)
         for choice in {good_choice(system, heard), other if fewer.is_good(other) else ()}:
