@@ -31,5 +31,5 @@ def are_kinds(thing, many):
 
 def has_heard(heard, formula):
     """Whether all words of a FORMULA are heard."""
-    known = [word for word, _ in heard]
+    known = {word: True for word, _ in heard}
     return all([word in known for word in words_of(formula)])

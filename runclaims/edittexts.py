@@ -1,5 +1,6 @@
 """EDITS as they are written in requests."""
 
+from runclaims.digits import number_in, number_text
 from runclaims.errors import BadText
 from runclaims.language import block_from
 from runclaims.paths import PARTS
@@ -12,13 +13,13 @@ def written_edit(edit):
     words = [edit[0]]
     for kind, own in zip(PARTS[edit[0]], edit[1:]):
         if kind == "path":
-            words.append(".".join([str(number) for number in own]) or "-")
+            words.append(".".join([number_text(number) for number in own]) or "-")
         elif kind == "deed":
             words.append(block_text((own,)))
         elif kind == "block":
             words.extend(["{", block_text(own), "}"] if own else ["{", "}"])
         else:
-            words.append(str(own))
+            words.append(number_text(own) if kind == "number" else own)
     return " ".join(words)
 
 
@@ -55,7 +56,7 @@ def _read_part(kind, text):
     if kind == "name":
         return (word if is_word(word) else None), rest
     if kind == "number":
-        return (int(word) if is_number_text(word) else None), rest
+        return (number_in(word) if is_number_text(word) else None), rest
     return _read_path(word), rest
 
 
@@ -66,7 +67,7 @@ def _read_path(word):
     numbers = word.split(".")
     if not all([is_number_text(number) for number in numbers]):
         return None
-    return tuple([int(number) for number in numbers])
+    return tuple([number_in(number) for number in numbers])
 
 
 def _read_deed(text):

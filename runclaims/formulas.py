@@ -5,11 +5,16 @@ from runclaims.formulaparts import (
 )
 from runclaims.language import pieces
 from runclaims.loops import place_of_run
+from runclaims.piles import read_joined
 from runclaims.plain import as_set, frozen, is_name
 from runclaims.reading import Reader
+from runclaims.writing import row_written
 
-# The words that join FORMULAS, those that join the least ahead.
-LEVELS = (("or",), ("and",), ("until", "unless"))
+# Brackets, words that turn one, words that join two: see read_joined.
+SIGNS = (
+    "[", "]", ("not", "next", "ever", "always"),
+    (("or", 1, "or"), ("and", 2, "and"), ("until", 3, "until"), ("unless", 3, "unless")),
+)
 
 
 def is_formula(thing):
@@ -95,21 +100,13 @@ def left_behind(formula, row):
 
 def formula_text(formula):
     """The text of a FORMULA."""
-    texts = []
-    for row in _rows(formula):
-        if row[0] in ("true", "word"):
-            texts.append(row[-1])
-        elif row[0] in ONE:
-            texts.append(f"{row[0]} {texts[row[1]]}")
-        else:
-            texts.append(f"[ {texts[row[1]]} {row[0]} {texts[row[2]]} ]")
-    return texts[-1]
+    return " ".join(row_written(frozen(formula), _parts_written))
 
 
 def formula_from(text):
     """The FORMULA that is so written."""
     reader = Reader(pieces(text))
-    formula = _read_joined(reader, 0)
+    formula = read_joined(reader, SIGNS, _read_least)
     reader.finish()
     return formula
 
@@ -138,27 +135,17 @@ def _is_piece(thing):
     return thing[0] in TWO and len(thing) == 3
 
 
-def _read_joined(reader, level):
-    """A FORMULA joined by the words of this level and those behind it alone."""
-    if level == len(LEVELS):
-        return _read_turned(reader)
-    formula = _read_joined(reader, level + 1)
-    while reader.now() in LEVELS[level]:
-        word = reader.step()
-        formula = (word, formula, _read_joined(reader, level + 1))
-    return formula
-
-
-def _read_turned(reader):
-    """true, a word, a FORMULA turned by one word or more, or one between brackets."""
-    piece = reader.now()
-    if piece in ONE:
-        return (reader.step(), _read_turned(reader))
-    if piece == "true":
-        return (reader.step(),)
-    if piece == "[":
-        reader.step()
-        formula = _read_joined(reader, 0)
-        reader.want("]")
+def _parts_written(formula):
+    """The pieces and the FORMULAS of which the text of a FORMULA is made."""
+    if formula[0] in ("true", "word"):
+        return (formula[-1],)
+    if formula[0] in ONE:
         return formula
+    return ("[", formula[1], formula[0], formula[2], "]")
+
+
+def _read_least(reader):
+    """true or a word."""
+    if reader.now() == "true":
+        return (reader.step(),)
     return ("word", reader.read_name())

@@ -65,7 +65,8 @@ def is_report(system, claims, thing):
         told = _told_rows(given, thing)
     except BadLine:
         return False
-    if [claim for claim, _, _ in told] != list(own):
+    # Texts are compared, as what is told may stand in itself too deep for comparing tuples.
+    if [claim_text(claim) for claim, _, _ in told] != [claim_text(claim) for claim in own]:
         return False
     return all([_is_right(given, claim, word, shown) for claim, word, shown in told])
 

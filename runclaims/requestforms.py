@@ -2,9 +2,11 @@
 
 from runclaims.claimtexts import read_claim
 from runclaims.edittexts import cut, read_edit
-from runclaims.errors import BadText, Unfit
-from runclaims.language import system_from
+from runclaims.errors import BadText
+from runclaims.language import pieces
+from runclaims.languageparts import read_frame
 from runclaims.plain import is_name
+from runclaims.reading import Reader
 from runclaims.turntexts import is_word, read_turn
 
 # What stands behind the word of each request.
@@ -25,11 +27,10 @@ def request_rows(text):
     found = []
     for number, line in enumerate(text.split("\n")):
         if found and line[:1] == " ":
-            begun, request = found[-1]
-            found[-1] = (begun, request + line)
+            found[-1][1].append(line)
         else:
-            found.append((number, line))
-    return found
+            found.append((number, [line]))
+    return [(number, "".join(lines)) for number, lines in found]
 
 
 def read_request(text):
@@ -71,9 +72,7 @@ def _is_written(kind, text):
 def _is_system_text(text):
     """Whether a SYSTEM is so written, be it one or not."""
     try:
-        system_from(text)
+        read_frame(Reader(pieces(text)))
     except BadText:
         return False
-    except Unfit:
-        return True
     return True

@@ -26,20 +26,42 @@ def scope_of(system):
 
 def is_value_in(scope, thing):
     """Whether thing is a VALUE within the scope."""
-    if is_row(thing, 2):
-        if thing[0] == "number":
-            return is_number_from(thing[1], 0, 9)
-        return thing[0] == "cell" and thing[1] in scope[0]
-    if not is_row(thing, 3) or thing[0] not in ("sum", "gap", "times"):
+    # An own stack, here and for TESTS: what is read from a text may be deep.
+    rest = [thing]
+    while rest:
+        part = rest.pop()
+        if is_row(part, 3) and part[0] in ("sum", "gap", "times"):
+            rest.extend(part[1:])
+        elif not _is_least_value(scope, part):
+            return False
+    return True
+
+
+def _is_least_value(scope, thing):
+    """Whether thing is a number or a cell within the scope, as a VALUE."""
+    if not is_row(thing, 2):
         return False
-    return is_value_in(scope, thing[1]) and is_value_in(scope, thing[2])
+    if thing[0] == "number":
+        return is_number_from(thing[1], 0, 9)
+    return thing[0] == "cell" and thing[1] in scope[0]
 
 
 def is_test_in(scope, thing):
     """Whether thing is a TEST within the scope."""
+    rest = [thing]
+    while rest:
+        part = rest.pop()
+        joins = is_row(part, 3) and part[0] in ("and", "or")
+        if joins or is_row(part, 2) and part[0] == "not":
+            rest.extend(part[1:])
+        elif not _is_least_test(scope, part):
+            return False
+    return True
+
+
+def _is_least_test(scope, thing):
+    """Whether thing is a TEST within the scope in which no others stand."""
     if is_row(thing, 2):
-        if thing[0] == "not":
-            return is_test_in(scope, thing[1])
         return thing[0] in ("empty", "full") and thing[1] in scope[2]
     if not is_row(thing, 3):
         return False
@@ -47,8 +69,6 @@ def is_test_in(scope, thing):
         return (thing[1], thing[2]) in scope[3]
     if thing[0] in ("same", "less"):
         return is_value_in(scope, thing[1]) and is_value_in(scope, thing[2])
-    if thing[0] in ("and", "or"):
-        return is_test_in(scope, thing[1]) and is_test_in(scope, thing[2])
     return False
 
 
@@ -75,53 +95,52 @@ def is_deed_row(thing):
     return SIZES.get(thing[0]) == len(thing)
 
 
-def is_placed_block(thing, in_once, can_leave, can_else):
-    """Whether thing is a block of DEEDS that stand where they may.
+def is_placed_block(thing):
+    """Whether thing is a block of DEEDS that stand where they may in a part.
 
-    can_leave: whether a leave may stand in it; can_else: whether an else may be
-    its first DEED. What its VALUES, TESTS and names are is not looked at.
+    What its VALUES, TESTS and names are is not looked at.
     """
-    if type(thing) is not tuple:
-        return False
-    for at, deed in enumerate(thing):
-        if not is_deed_row(deed) or not is_placed(deed, in_once, can_leave):
+    # Blocks, each with where it stands: whether within another one, within a once, where a
+    # leave may stand, where its first DEED may be an else.
+    rest = [(thing, False, False, False, False)]
+    while rest:
+        block, inner, in_once, can_leave, can_else = rest.pop()
+        if type(block) is not tuple or inner and len(block) == 0:
             return False
-        if deed[0] == "else" and not (can_else and at == 0):
+        for at, deed in enumerate(block):
+            if not is_deed_row(deed) or not _may_stand(deed, in_once, can_leave):
+                return False
+            if deed[0] == "else" and not (can_else and at == 0):
+                return False
+            rest.extend(_inner_blocks(deed, in_once, can_leave))
+        if inner and block[0][0] in ("label", "pick", "again"):
             return False
     return True
 
 
-def is_placed(deed, in_once, can_leave):
-    """Whether a DEED may stand here, and so may those in it."""
+def _may_stand(deed, in_once, can_leave):
+    """Whether a DEED may stand here, whatever stands in it."""
     if deed[0] in ("label", "go"):
         return is_name(deed[1]) and not in_once
     if deed[0] == "leave":
         return can_leave
     if deed[0] == "once":
-        return not in_once and is_inner_block(deed[1], True, False, False)
-    if deed[0] == "pick":
-        return are_inner_blocks(deed[1], in_once, can_leave)
-    if deed[0] == "again":
-        return are_inner_blocks(deed[1], in_once, True)
+        return not in_once
+    if deed[0] in ("pick", "again"):
+        return type(deed[1]) is tuple and len(deed[1]) > 0
     return True
 
 
-def is_inner_block(thing, in_once, can_leave, can_else):
-    """Whether thing is such a block of a pick, an again or a once."""
-    if not is_placed_block(thing, in_once, can_leave, can_else):
-        return False
-    return len(thing) > 0 and thing[0][0] not in ("label", "pick", "again")
-
-
-def are_inner_blocks(thing, in_once, can_leave):
-    """Whether thing are the blocks of a pick or an again."""
-    if type(thing) is not tuple or len(thing) == 0:
-        return False
-    last = len(thing) - 1
-    for at, block in enumerate(thing):
-        if not is_inner_block(block, in_once, can_leave, at == last and last > 0):
-            return False
-    return True
+def _inner_blocks(deed, in_once, can_leave):
+    """The blocks in a DEED, each with where it stands."""
+    if deed[0] == "once":
+        return [(deed[1], True, True, False, False)]
+    if deed[0] not in ("pick", "again"):
+        return []
+    leaves, last = can_leave or deed[0] == "again", len(deed[1]) - 1
+    return [
+        (block, True, in_once, leaves, at == last and last > 0) for at, block in enumerate(deed[1])
+    ]
 
 
 def is_filled(scope, labels, deed):
@@ -172,7 +191,7 @@ def is_whole(thing):
         return False
     # Labels can be gathered only from blocks that are known to be built of DEEDS.
     for _, block in thing[2]:
-        if not is_placed_block(block, False, False, False):
+        if not is_placed_block(block):
             return False
     scope = scope_of(thing)
     return all([is_filled_block(scope, block) for part, block in thing[2]])

@@ -1,5 +1,7 @@
 """TURNS, words and numbers as they are written in reports and requests."""
 
+from runclaims.digits import number_in, number_text
+
 LETTERS = "abcdefghijklmnopqrstuvwxyz"
 DIGITS = "0123456789"
 
@@ -20,7 +22,8 @@ def written_turn(names, turn):
     """The text of a TURN of parts with these names."""
     if turn == ():
         return "idle"
-    return " to ".join([f"{names[turn[at]]} {turn[at + 1]}" for at in range(0, len(turn), 2)])
+    rows = [f"{names[turn[at]]} {number_text(turn[at + 1])}" for at in range(0, len(turn), 2)]
+    return " to ".join(rows)
 
 
 def read_turn(text):
@@ -37,5 +40,5 @@ def read_turn(text):
     for at in range(0, len(words), 2):
         if not (is_word(words[at]) and is_number_text(words[at + 1])):
             return None
-        found.extend([words[at], int(words[at + 1])])
+        found.extend([words[at], number_in(words[at + 1])])
     return tuple(found)

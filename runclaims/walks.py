@@ -50,11 +50,13 @@ def blocks_in(deed):
 
 def deeds_in(block):
     """All DEEDS of a block, each ahead of those within it."""
-    found = []
-    for deed in block:
+    # An own stack, the next DEED last: what is read from a text may be deep.
+    found, rest = [], list(block[::-1])
+    while rest:
+        deed = rest.pop()
         found.append(deed)
-        for inner in blocks_in(deed):
-            found.extend(deeds_in(inner))
+        for inner in blocks_in(deed)[::-1]:
+            rest.extend(inner[::-1])
     return found
 
 

@@ -160,6 +160,7 @@ BY_ARGUMENTS = {
     ("one", "ones", "other", "others"): [BOTH, (FREE, ON, ALIKE, ON)],
     ("system", "heard", "formula"): [(FREE, ON, SEEN), (FREE, ON, SURE)], ("system", "test"): [(FREE, ON[0][1])],
 }
+GREAT = (10 ** 5000, -10 ** 5000, "9" * 5000, "[ " * 5000, "a" * 5000 + " 0", ("x",) * 2000, ((0, 0),) * 2000)
 LISTS = (
     "states", "true_loops", "come_pairs", "led_from", "keeping_states", "least_kinds", "fewer_states", "all_states", "layers",
     "stuck_states", "ended_states", "lost_states", "rows_told", "lots", "paths_of",
@@ -179,6 +180,17 @@ def all_calls():
 def as_lists(names, given):
     """The arguments with lists in them, but for thing, which is told as it is."""
     return [value if name == "thing" else listed(value) for name, value in zip(names, given)]
+
+
+def grown_things(thing):
+    """Values near this one, with something great in them."""
+    yield from GREAT
+    if isinstance(thing, tuple):
+        for at, inner in enumerate(thing):
+            for other in grown_things(inner):
+                yield thing[:at] + (other,) + thing[at + 1:]
+        yield thing + thing[-1:] * 1000
+        yield thing * 200
 
 
 def has_list(thing):
@@ -231,6 +243,14 @@ class Arguments(unittest.TestCase):
                 near = list(itertools.islice(changed_things(given[-1]), 300))
                 for thing in list(JUNK) + near + [((), JUNK), (JUNK, JUNK), (deep(28),) * 3, ("kept", JUNK)]:
                     with self.subTest(call.__name__, thing=thing):
+                        self.assertIs(type(call(*given[:-1], thing)), bool)
+
+    def test_things_of_any_size(self):
+        for call, names, given in all_calls():
+            if "thing" in names and not has_list(given[-1]):
+                near = list(itertools.islice(grown_things(given[-1]), 200))
+                for thing in near + [row for great in GREAT for row in (great, (great,), (great, great), ((great, great), (great,)))]:
+                    with self.subTest(call.__name__):
                         self.assertIs(type(call(*given[:-1], thing)), bool)
 
     def test_all_arguments_are_named(self):

@@ -124,6 +124,65 @@ class Requests(Case):
         ])
 
 
+class AnyText(Case):
+    """A thing may be a text with numbers of any length, and of any depth."""
+
+    def test_great_numbers(self):
+        for digits in (1, 640, 4300, 4301, 5000, 20000):
+            great = "9" * digits
+            for text in (
+                "turn x a {}", "turn x a 1 to b {}", "turn x a {} to b {}", "edit x insert a {} pass", "edit x insert a 0.{} pass", "edit x remove a 0.{}.1", "edit x replace a {}.{} leave", "edit x top c {}", "edit x value c {}",
+                "spoilt x room q {}", "edit x cell n {} {}", "mended x queue n {} {}", "turn\n x\n a\n {}",
+            ):
+                self.assertIs(is_request(text.replace("{}", great)), True, text)
+                self.assertIs(is_request(thing=text.replace("{}", great)), True, text)
+                for wrong in ("0" + great, great + "x", "-" + great, "+" + great, great + ".", great + "\u0663", great + "-9"):
+                    self.assertIs(is_request(text.replace("{}", wrong)), False, text)
+
+    def test_numbers_of_one_digit_alone(self):
+        for text in ("put x cell c {} = 0 part a { }", "put x queue q 3 {} part a { }", "edit x insert a 0 c = {}", "keep x can c == {}", "edit x part b { put q {} }"):
+            self.assertIs(is_request(text.replace("{}", "9", 1)), True, text)
+            for digits in (2, 640, 5000):
+                self.assertIs(is_request(text.replace("{}", "9" * digits, 1)), False, text)
+
+    def test_they_come_back(self):
+        great = 10 ** 5000 + 7
+        for edit in (("top", "c", great), ("remove", "a", (0, great, 1)), ("cell", "n", great, great - 1), ("insert", "a", (great,), PASS)):
+            text = edit_text(edit)
+            self.assertEqual(text.count("0" * 4999 + "7") + text.count("0" * 4999 + "6"), [type(own) for own in edit].count(int) or 1)
+            self.assertEqual(edit_from(text), edit)
+            self.assertIs(is_request("mended x " + text), True)
+        for turn in ((0, great), (1, great, 0, great + 1)):
+            self.assertEqual(turn_from(SAMPLE, turn_text(SAMPLE, turn)), turn)
+            self.assertIs(is_request("turn s " + turn_text(SAMPLE, turn)), True)
+        text = "put s " + SYSTEM + "\nturn s a {0}\nedit s remove a {0}\nedit s top x {0}\nturn s a 0 to b {0}".format("9" * 5000)
+        self.assertEqual(replies(text), ["done", "refused NotReady", "refused Unfit", "refused Unfit", "refused NotReady"])
+
+    def test_deep_texts(self):
+        for many in (1, 41, 5000):
+            for begin, ahead, middle, behind, end in (
+                ("keep x can ", "(", "c", ")", " == 2"), ("keep x can 1 < ", "1 - (", "c", ")", ""), ("free x can ", "[", "c == 2", "]", ""), ("keep x back ", "not [", "c == 2 or full q", "]", ""), ("keep x keeps none ", "[", "true", "]", ""),
+                ("keep x keeps none ", "always [ a until ", "b", "]", "; a is full q; b is full q"), ("keep x keeps none true; w is ", "[", "stands a b", "]", ""), ("put x part a { ", "once { ", "pass", " }", " }"), ("put x part a {", "pick { pass ; pass | ", "pass", " }", " ; pass }"),
+                ("edit x insert a 0 ", "again { ", "leave", " }", ""), ("edit x part b { ", "pick { ", "else", " | pass }", " }"), ("put x part a { c = ", "( 1 + ", "c", " )", " } part b { }"), ("spoilt x replace a 0.1 when ", "[ not ", "full q", " ]", ""),
+            ):
+                self.assertIs(is_request(begin + ahead * many + middle + behind * many + end), True, begin)
+                for bad in (
+                    begin + ahead * many + middle + behind * (many - 1) + end, begin + ahead * many + middle + behind * (many + 1) + end, begin + ahead * many + end, begin + ahead * many + middle + " " + middle + behind * many + end,
+                    begin + ahead * many + middle + behind * many + end + " ] ", begin + ahead * many + middle,
+                ):
+                    self.assertIs(is_request(bad), False, begin)
+
+    def test_long_texts(self):
+        many = 20000
+        for begin, ahead, middle in (
+            ("keep x always ", "not ", "c == 2"), ("keep x always ", "full q and ", "c == 2"), ("keep x always ", "1 + ", "c == 2"), ("keep x keeps none ", "next ", "true"), ("keep x keeps none ", "true until ", "true"),
+            ("keep x keeps none ", "a or not ", "true; a is full q"), ("keep x keeps ", "weak,", "none true"), ("edit x insert a ", "1.", "1 pass"), ("put x part a {", "\n pass ;", "\n pass\n }"), ("put x ", "cell c 1 = 0 ", "part a { }"),
+        ):
+            self.assertIs(is_request(begin + ahead * many + middle), True, begin)
+            self.assertIs(is_request(begin + ahead * many), False, begin)
+            self.assertIs(is_request(begin + ahead * many + middle + " ;"), False, begin)
+
+
 class Replies(Case):
     def told(self, text, *wanted):
         self.assertEqual(replies(text), list(wanted))

@@ -180,6 +180,44 @@ class Reports(Case):
             self.assertIs(is_report(CLOCK, claims, thing), False)
         self.assertIs(is_report(CLOCK, claims[::-1], text), False)
 
+    def test_great_numbers(self):
+        claims, swap = (("can", TWO), ("always", ZERO), NIL), (("can", TWO),)
+        text = "can x == 2: stands\n  a 0\n  a 0\nalways x == 0: falls\n  a 0\n" + claim_text(NIL) + ": stands"
+        self.assertIs(is_report(CLOCK, claims, text), True)
+        for digits in (1, 640, 4301, 5000):
+            great = "9" * digits
+            self.assertIs(is_report(CLOCK, claims, text.replace("a 0", "a " + great, 1)), False)
+            self.assertIs(is_report(CLOCK, claims, text.replace("a 0", "a 0 to a " + great, 1)), False)
+            self.assertIs(is_report(CLOCK, claims, text.replace("falls\n  a 0", "falls\n  a " + great)), False)
+            self.assertIs(is_report(CLOCK, claims, text.replace("x == 2", "x == 2" + great)), False)
+            self.assertIs(is_report(CLOCK, (GONE,), claim_text(GONE) + ": falls\n  round\n  a " + great), False)
+            self.assertIs(is_report(CLOCK, (GONE,), claim_text(GONE) + ": falls\n  a " + great + "\n  round\n  a 0"), False)
+            for turn in ("b 1 to a " + great, "b " + great + " to a 1", "b " + great):
+                self.assertIs(is_report(SWAP, swap, "can x == 2: stands\n  " + turn), False)
+                self.assertEqual(told_verdicts(SWAP, "can x == 2: stands\n  " + turn), ((swap[0], "stands"),))
+            self.assertIs(is_report(SWAP, swap, "can x == 2: stands\n  b 1 to a 1"), True)
+
+    def test_deep_and_long_texts(self):
+        many = 5000
+        for text in (
+            "can " + "[" * many + "x == 2" + "]" * many + ": stands\n  a 0\n  a 0", "can " + "(" * many + "x" + ")" * many + " == 2: stands\n  a 0\n  a 0", "always " + "not " * many + "x == 0: falls\n  a 0", "always " + "[ not " * many + "x == 0" + " ]" * many + ": falls\n  a 0",
+            "always " + "( " * many + "x" + " + 1 )" * many + " == 0: falls\n  a 0", "back " + "[ x == 0 or " * many + "x == 0" + " ]" * many + ": stands", "keeps none " + "next " * many + "true: stands", "keeps none " + "[ true until " * many + "true" + " ]" * many + ": stands",
+            "keeps none true; w is " + "[ not " * many + "x == 0" + " ]" * many + ": stands", "can " + "[" * many, "keeps none " + "[" * many + "true" + "]" * (many - 1) + ": stands",
+        ):
+            for claims in ((), (("can", TWO),), (("always", ZERO),), (("always", ("not", ZERO)),), (("keeps", (), ("next", ("true",)), ("none",)),)):
+                self.assertIs(is_report(CLOCK, claims, text), False, text[:30])
+        self.assertIs(is_report(CLOCK, (("can", TWO),), "can x == 2: stands" + "\n  a 0" * (3 * many + 2)), True)
+        self.assertIs(is_report(CLOCK, (("can", TWO),), "can x == 2: stands" + "\n  a 0" * (3 * many + 1)), False)
+        self.assertIs(is_report(CLOCK, (("can", TWO),), "can x == 2: stands\n  a 0\n  a 0" + "\nmoves: stands" * many), False)
+        self.assertIs(is_report(CLOCK, (GONE,), claim_text(GONE) + ": falls\n  round" + "\n  a 0" * (3 * many)), True)
+
+    def test_claims_as_deep_as_the_text(self):
+        many = 3000
+        deep = told_verdicts(CLOCK, "always " + "[ not " * many + "x == 0" + " ]" * many + ": falls\n  a 0")
+        self.assertEqual(claim_text(deep[0][0]), "always " + "[ not " * many + "x == 0" + " ]" * many)
+        self.assertEqual(claim_text(claim_from("always " + "not " * many + "x==0")), claim_text(deep[0][0]))
+        self.assertEqual(claim_text(claim_from("keeps none " + "ever " * many + "true")), "keeps none " + "ever " * many + "true")
+
     def test_what_is_no_claim_is_refused(self):
         for claims in ((("always", ("empty", "z")),), (("moves",), ("moves", LOW)), ((),)):
             self.assert_raises(Unfit, {}, report, SAMPLE, claims)
